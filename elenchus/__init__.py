@@ -1,0 +1,1 @@
+"""Elenchus: a prover for first-order logic with equality."""

@@ -1,0 +1,124 @@
+"""Point 4: the classes of errors and their attributes."""
+
+import unittest
+
+from elenchus import errors
+from elenchus.errors import ElenchusError, InvalidPosition, TextError, TooLarge
+from elenchus.formulas import Signature
+from elenchus.terms import replace_at
+from elenchus.unify import apply, compose, unify_all
+
+ATTRIBUTES = {
+    "TextError": ("line", "column", "reason"),
+    "UnknownSymbol": ("symbol",),
+    "KindError": ("symbol",),
+    "ArityError": ("symbol", "expected", "found"),
+    "TooLarge": ("limit",),
+    "InvalidStep": ("place", "reason"),
+    "InvalidPosition": ("position",),
+    "MissingVariable": ("variable",),
+    "InvalidStructure": ("reason",),
+    "UnknownClause": ("number",),
+    "UnknownRecord": ("number",),
+    "UnknownEntry": ("number",),
+    "DuplicateNumber": ("number",),
+    "DuplicateName": ("name",),
+    "SecondGoal": ("name",),
+    "InvalidOrdering": ("reason",),
+    "InvalidRatio": ("reason",),
+    "InvalidSelection": ("selection",),
+    "EmptyQueue": (),
+    "NoLevel": (),
+}
+
+
+class ErrorClasses(unittest.TestCase):
+    def test_the_base_class_is_a_value_error(self):
+        self.assertEqual(ElenchusError.__bases__, (ValueError,))
+
+    def test_each_class_lies_directly_below_the_base_class(self):
+        for name in ATTRIBUTES:
+            with self.subTest(name=name):
+                self.assertEqual(getattr(errors, name).__bases__, (ElenchusError,))
+
+    def test_there_are_no_other_classes(self):
+        found = [name for name, thing in vars(errors).items() if isinstance(thing, type)]
+        self.assertEqual(sorted(found), sorted(["ElenchusError", *ATTRIBUTES]))
+
+    def test_each_attribute_is_set_when_the_error_is_created(self):
+        for name, attributes in ATTRIBUTES.items():
+            with self.subTest(name=name):
+                values = [object() for _ in attributes]
+                error = getattr(errors, name)(*values)
+                for attribute, value in zip(attributes, values):
+                    self.assertIs(getattr(error, attribute), value)
+
+    def test_arguments_have_the_names_of_the_attributes(self):
+        for name, attributes in ATTRIBUTES.items():
+            with self.subTest(name=name):
+                values = {attribute: object() for attribute in attributes}
+                error = getattr(errors, name)(**values)
+                for attribute in attributes:
+                    self.assertIs(getattr(error, attribute), values[attribute])
+
+    def test_each_error_can_be_raised_and_has_a_message(self):
+        for name, attributes in ATTRIBUTES.items():
+            with self.subTest(name=name):
+                with self.assertRaises(ElenchusError) as caught:
+                    raise getattr(errors, name)(*["x" for _ in attributes])
+                self.assertIsInstance(str(caught.exception), str)
+
+    def test_the_message_of_a_text_error_tells_the_place(self):
+        self.assertEqual(str(TextError(3, 7, "unexpected token")), "line 3, column 7: unexpected token")
+
+    def test_wrong_numbers_of_arguments_are_refused(self):
+        for name, attributes in ATTRIBUTES.items():
+            if attributes:
+                with self.subTest(name=name), self.assertRaises(TypeError):
+                    getattr(errors, name)()
+
+
+class NothingChanges(unittest.TestCase):
+    """A call that raises has changed no argument."""
+
+    def test_apply(self):
+        big = ("f", *[0] * 900)
+        substitution = {0: big, 1: ("a",)}
+        with self.assertRaises(TooLarge):
+            apply(substitution, ("g", 0, 1, 0))
+        self.assertEqual(substitution, {0: big, 1: ("a",)})
+
+    def test_compose(self):
+        first = {0: ("f", 1, 1)}
+        second = {1: ("f", *[2] * 900)}
+        with self.assertRaises(TooLarge):
+            compose(first, second)
+        self.assertEqual(first, {0: ("f", 1, 1)})
+        self.assertEqual(second, {1: ("f", *[2] * 900)})
+
+    def test_unify_all(self):
+        pairs = [(0, ("f", 1, 1)), (1, ("f", *[2] * 900))]
+        with self.assertRaises(TooLarge):
+            unify_all(pairs)
+        self.assertEqual(pairs, [(0, ("f", 1, 1)), (1, ("f", *[2] * 900))])
+
+    def test_replace_at(self):
+        position = (2, 1)
+        with self.assertRaises(InvalidPosition):
+            replace_at(("f", 0), position, ("a",))
+        self.assertEqual(position, (2, 1))
+
+    def test_signature(self):
+        signature = Signature()
+        signature.add_function("f", 1)
+        for add, symbol, arity in [(signature.add_function, "f", 2), (signature.add_predicate, "f", 1),
+                                   (signature.add_function, "g", 9)]:
+            with self.assertRaises(ElenchusError):
+                add(symbol, arity)
+        self.assertEqual(signature.functions(), [("f", 1)])
+        self.assertEqual(signature.predicates(), [])
+        self.assertEqual(len(signature), 1)
+
+
+if __name__ == "__main__":
+    unittest.main()

@@ -1,0 +1,271 @@
+"""The rules of the language that a look at the code can decide, and the interface of the modules."""
+
+import ast
+import builtins
+import importlib
+import inspect
+import os
+import re
+import unittest
+
+import elenchus
+
+FOLDER = os.path.dirname(elenchus.__file__)
+
+BUILTINS = """
+len range enumerate zip min max sum abs sorted reversed int str bool bytes list tuple dict set frozenset isinstance ord repr
+any all divmod pow getattr hasattr setattr iter next map super property staticmethod classmethod object print Exception
+ValueError TypeError KeyError IndexError LookupError ZeroDivisionError ArithmeticError OverflowError RuntimeError
+NotImplementedError AttributeError StopIteration NotImplemented
+""".split()
+
+METHODS = """
+append clear copy count endswith extend find get index insert isalnum isalpha isdigit islower isspace isupper items join
+keys ljust lower lstrip partition pop remove replace reverse rfind rjust rpartition rsplit rstrip setdefault split
+splitlines startswith strip update upper values zfill bit_length add discard sort format title capitalize swapcase casefold
+center expandtabs removeprefix removesuffix rindex isascii isdecimal isnumeric istitle isidentifier isprintable translate
+""".split()
+
+BARRED_ATTRIBUTES = """
+items keys values pop update append clear extend insert remove reverse setdefault sort args encode decode hex fromhex format
+""".split()
+
+SPECIAL_METHODS = """
+__init__ __eq__ __repr__ __str__ __len__ __enter__ __exit__ __call__ __iter__ __lt__ __le__ __gt__ __ge__ __ne__
+__contains__ __getitem__ __setitem__ __bool__
+""".split()
+
+UNUSED_NAMES = """
+register mro elements open input law version_info with_traceback add_note attrgetter breakpoint builtins compile copyright
+credits delattr dir eval exec exit gc globals help id importlib license locals methodcaller os quit type vars sys
+""".split()
+
+UNUSED_WORDS = """
+type typing typing_extensions enum Enum IntEnum StrEnum Flag IntFlag Generic Protocol ABC ABCMeta namedtuple NamedTuple
+TypedDict TYPE_CHECKING abstractmethod dataclass overload contextmanager _wall _WallAttr
+""".split()
+
+INTERFACE = {
+    "terms": ["is_variable(term)", "is_ground(term)", "size(term)", "nesting(term)", "variables(term)",
+              "occurs(variable, term)", "positions(term, *, with_variables=True)", "subterm_at(term, position)",
+              "replace_at(term, position, new)", "shift(term, by)", "symbols(term)"],
+    "show": ["show_term(term)", "show_literal(literal)", "show_clause(clause)", "show_formula(formula)"],
+    "unify": ["apply(substitution, term)", "compose(first, second)", "match(pattern, term, *, known=None)",
+              "match_all(pairs, *, known=None)", "unify(first, second)", "unify_all(pairs)"],
+    "lexer": ["tokens(text)"],
+    "reader": ["read_statements(text)", "read_formula(text)", "read_term(text)", "read_clause(text)"],
+    "formulas": ["formula_signature(formulas)", "clause_signature(clauses)", "free_variables(formula)",
+                 "formula_literals(formula)"],
+    "structures": ["assignments(names, size)", "clause_holds(structure, clause)", "formula_holds(structure, formula)",
+                   "counterexample(structure, clause)"],
+    "negation": ["negation_normal(formula)", "normal_size(formula, *, negated=False)"],
+    "skolem": ["close(formula)", "rename_bound(formula)", "skolemize(formula, *, taken=())",
+               "skolem_tables(structure, skolemization)"],
+}
+
+CLASSES = {
+    ("formulas", "Signature"): [
+        "__init__(self)", "add_function(self, symbol, arity)", "add_predicate(self, symbol, arity)", "functions(self)",
+        "predicates(self)", "arity(self, symbol)", "is_predicate(self, symbol)", "__contains__(self, symbol)",
+        "__len__(self)"],
+    ("structures", "Structure"): [
+        "__init__(self, size, functions, predicates)", "functions(self)", "predicates(self)",
+        "value(self, term, assignment)", "literal_holds(self, literal, assignment)",
+        "clause_holds_at(self, clause, assignment)", "formula_holds_at(self, formula, assignment)",
+        "completed(self, signature)", "renamed(self, signature, permutation)", "__eq__(self, other)"],
+}
+
+
+def sources():
+    """Return a dict from the names of the modules to their texts."""
+    found = {}
+    for name in sorted(os.listdir(FOLDER)):
+        if name.endswith(".py"):
+            with open(os.path.join(FOLDER, name), encoding="utf-8") as file:
+                found[name[:-3]] = file.read()
+    return found
+
+
+SOURCES = sources()
+TREES = {name: ast.parse(text) for name, text in SOURCES.items()}
+
+
+def nodes(kind):
+    """Return the pairs (module, node) of all nodes of this kind."""
+    return [(name, node) for name, tree in TREES.items() for node in ast.walk(tree) if isinstance(node, kind)]
+
+
+class Files(unittest.TestCase):
+    """Rules L1, L10, L12 and L14."""
+
+    def test_the_folder_has_nothing_but_modules(self):
+        for name in os.listdir(FOLDER):
+            if name != "__pycache__":
+                self.assertRegex(name, r"^(__init__|[a-z][a-z0-9_]*)\.py$")
+
+    def test_characters_and_lines(self):
+        for name, text in SOURCES.items():
+            with self.subTest(name=name):
+                self.assertRegex(text, r"\A[ -~\n]*\Z")
+                self.assertLess(text.count("\n"), 400)
+                self.assertLessEqual(max(len(line) for line in text.split("\n")), 120)
+
+    def test_functions_have_at_most_40_lines(self):
+        for name, node in nodes(ast.FunctionDef):
+            self.assertLessEqual(node.end_lineno - node.lineno + 1, 40, (name, node.name))
+
+    def test_words_that_are_not_used(self):
+        for name, text in SOURCES.items():
+            code = ast.unparse(without_docstrings(TREES[name]))
+            for word in UNUSED_WORDS:
+                self.assertIsNone(re.search(rf"\b{word}\b", code), (name, word))
+
+
+class Imports(unittest.TestCase):
+    """Rules L2, L15 and L16."""
+
+    def test_names_come_from_the_files_that_define_them(self):
+        self.assertEqual([], nodes(ast.Import))
+        for name, node in nodes(ast.ImportFrom):
+            package, _, module = node.module.partition(".")
+            self.assertEqual((package, node.level), ("elenchus", 0), name)
+            for alias in node.names:
+                self.assertIn(alias.name, defined(module), (name, module))
+                self.assertIsNone(alias.asname)
+                self.assertGreater(len(re.findall(rf"\b{alias.name}\b", SOURCES[name])), 1, (name, alias.name))
+
+    def test_no_two_files_import_from_each_other(self):
+        below = {name: [] for name in TREES}
+        for name, node in nodes(ast.ImportFrom):
+            below[name].append(node.module.partition(".")[2])
+        left = dict(below)
+        while left:
+            free = [name for name in left if not any(module in left for module in left[name])]
+            self.assertNotEqual(free, [], left)
+            left = {name: left[name] for name in left if name not in free}
+
+    def test_imports_stand_at_the_top(self):
+        for name, tree in TREES.items():
+            kinds = [isinstance(node, ast.ImportFrom) for node in tree.body[1:]]
+            self.assertEqual(kinds, sorted(kinds, reverse=True), name)
+            self.assertEqual(sum(kinds), len([pair for pair in nodes(ast.ImportFrom) if pair[0] == name]))
+
+
+class Code(unittest.TestCase):
+    """Rules L3 to L8, L12, L15, L17, L25 and L27."""
+
+    def test_the_module_level(self):
+        for name, tree in TREES.items():
+            self.assertIsNotNone(ast.get_docstring(tree), name)
+            for node in tree.body[1:]:
+                self.assertIsInstance(node, (ast.ImportFrom, ast.FunctionDef, ast.ClassDef, ast.Assign), name)
+            names = [name for node in tree.body for name in bound_names(node)]
+            self.assertEqual(len(names), len(set(names)), name)
+
+    def test_statements_and_values(self):
+        for kind in (ast.Global, ast.AsyncFunctionDef, ast.AsyncFor, ast.AsyncWith, ast.Await, ast.Div):
+            self.assertEqual(nodes(kind), [], kind)
+        for name, node in nodes(ast.Constant):
+            self.assertNotIsInstance(node.value, (float, complex), name)
+            if isinstance(node.value, str):
+                self.assertNotIn("%", node.value, name)
+
+    def test_decorators(self):
+        for name, node in nodes((ast.FunctionDef, ast.ClassDef)):
+            if isinstance(node, ast.ClassDef):
+                self.assertEqual(node.decorator_list, [], (name, node.name))
+            for decorator in node.decorator_list:
+                self.assertRegex(ast.unparse(decorator), r"^(property|staticmethod|classmethod|\w+\.setter)$", name)
+
+    def test_builtins(self):
+        for name, node in nodes(ast.Name):
+            if hasattr(builtins, node.id):
+                self.assertIsInstance(node.ctx, ast.Load, (name, node.id))
+                self.assertIn(node.id, BUILTINS, name)
+
+    def test_bound_names(self):
+        for name, tree in TREES.items():
+            taken = [alias.name for node in ast.walk(tree) if isinstance(node, ast.ImportFrom) for alias in node.names]
+            taken += [node.name for node in tree.body if isinstance(node, ast.ClassDef)]
+            local = [node.arg for node in ast.walk(tree) if isinstance(node, ast.arg)]
+            local += [node.id for node in ast.walk(tree)
+                      if isinstance(node, ast.Name) and isinstance(node.ctx, ast.Store)]
+            for word in local:
+                self.assertNotIn(word, taken, name)
+            for word in local + [node.name for node in tree.body if isinstance(node, (ast.FunctionDef, ast.ClassDef))]:
+                self.assertFalse(hasattr(builtins, word), (name, word))
+                self.assertNotIn(word, UNUSED_NAMES, name)
+                self.assertRegex(word, r"^(_|_?[A-Za-z][A-Za-z0-9_]*)$", name)
+
+    def test_methods(self):
+        own = [part.name for _, node in nodes(ast.ClassDef) for part in node.body if isinstance(part, ast.FunctionDef)]
+        for name, node in nodes(ast.Call):
+            if isinstance(node.func, ast.Attribute):
+                self.assertIn(node.func.attr, own + METHODS, name)
+        for word in own:
+            self.assertNotIn(word, UNUSED_NAMES)
+            self.assertTrue(word in SPECIAL_METHODS or not word.startswith("__"), word)
+
+    def test_attributes(self):
+        for name, node in nodes(ast.ClassDef):
+            methods = [part.name for part in node.body if isinstance(part, ast.FunctionDef)]
+            for part in ast.walk(node):
+                if isinstance(part, ast.Attribute) and isinstance(part.ctx, ast.Store):
+                    self.assertNotIn(part.attr, methods + BARRED_ATTRIBUTES + UNUSED_NAMES[:9], name)
+
+
+class Interface(unittest.TestCase):
+    """Each function, class and method is defined where the document lists it."""
+
+    def test_functions(self):
+        for name, lines in INTERFACE.items():
+            module = importlib.import_module(f"elenchus.{name}")
+            for line in lines:
+                function = getattr(module, line.partition("(")[0])
+                self.assertEqual(function.__name__ + str(inspect.signature(function)), line)
+                self.assertEqual(function.__module__, f"elenchus.{name}")
+
+    def test_classes(self):
+        for (name, word), lines in CLASSES.items():
+            thing = getattr(importlib.import_module(f"elenchus.{name}"), word)
+            self.assertEqual(thing.__module__, f"elenchus.{name}")
+            for line in lines:
+                method = vars(thing)[line.partition("(")[0]]
+                self.assertEqual(method.__name__ + str(inspect.signature(method)), line)
+
+    def test_properties(self):
+        cases = [("structures", "Structure", "size"), ("skolem", "Skolemization", "skolem_symbols")]
+        for name, word, attribute in cases:
+            thing = getattr(importlib.import_module(f"elenchus.{name}"), word)
+            self.assertIsInstance(vars(thing)[attribute], property)
+
+    def test_assignments_is_a_generator(self):
+        module = importlib.import_module("elenchus.structures")
+        self.assertTrue(inspect.isgeneratorfunction(module.assignments))
+
+
+def bound_names(node):
+    """Return the names that a statement at module level binds."""
+    if isinstance(node, ast.ImportFrom):
+        return [alias.name for alias in node.names]
+    if isinstance(node, ast.Assign):
+        return [target.id for target in node.targets]
+    return [node.name] if isinstance(node, (ast.FunctionDef, ast.ClassDef)) else []
+
+
+def defined(module):
+    """Return the names that a module defines itself."""
+    return [name for node in TREES[module].body if not isinstance(node, ast.ImportFrom) for name in bound_names(node)]
+
+
+def without_docstrings(tree):
+    """Return a copy of the tree without docstrings."""
+    tree = ast.parse(ast.unparse(tree))
+    for node in ast.walk(tree):
+        if isinstance(node, (ast.Module, ast.ClassDef, ast.FunctionDef)) and ast.get_docstring(node) is not None:
+            node.body[0].value.value = ""
+    return tree
+
+
+if __name__ == "__main__":
+    unittest.main()
