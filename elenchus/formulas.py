@@ -151,11 +151,8 @@ def formula_literals(formula):
 def replace_free(formula, new):
     """Return the formula with `new[x]` in place of each free variable x that is a key of `new`.
 
-    The terms in `new` have no variables that a quantifier of the formula binds.
+    No quantifier of the formula binds a key of `new` or a variable of its terms.
     """
     if formula[0] == "equal":
         return ("equal", replace_variables(formula[1], new), replace_variables(formula[2], new))
-    if formula[0] in ("all", "some"):
-        visible = {name: new[name] for name in new if name != formula[1]}
-        return (formula[0], formula[1], replace_free(formula[2], visible))
     return with_parts(formula, [replace_free(part, new) for part in parts(formula)])

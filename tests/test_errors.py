@@ -61,12 +61,13 @@ class ErrorClasses(unittest.TestCase):
                 for attribute in attributes:
                     self.assertIs(getattr(error, attribute), values[attribute])
 
-    def test_each_error_can_be_raised_and_has_a_message(self):
+    def test_each_error_can_be_raised_and_its_message_has_the_values(self):
         for name, attributes in ATTRIBUTES.items():
             with self.subTest(name=name):
                 with self.assertRaises(ElenchusError) as caught:
-                    raise getattr(errors, name)(*["x" for _ in attributes])
-                self.assertIsInstance(str(caught.exception), str)
+                    raise getattr(errors, name)(*[f"the {attribute}" for attribute in attributes])
+                for attribute in attributes:
+                    self.assertIn(f"the {attribute}", str(caught.exception))
 
     def test_the_message_of_a_text_error_tells_the_place(self):
         self.assertEqual(str(TextError(3, 7, "unexpected token")), "line 3, column 7: unexpected token")

@@ -194,6 +194,22 @@ class FreeVariables(unittest.TestCase):
             (True, "X", ("a",)), (True, ("p", "X"), TRUE), (True, ("f", "Y"), ("b",)), (True, ("q",), TRUE)])
         self.assertEqual(formula_literals(("true",)), [])
 
+    def test_symbols_with_the_names_of_kinds(self):
+        text = "all X: equal(not(X)) & and(X, or) = implies(iff) -> ~not(equal)"
+        with self.assertRaises(KindError):
+            formula_signature([read_formula(text)])
+        formula = read_formula("all X: equal(not(X, X)) & and(X, or) = implies(iff(equals)) -> ~and2")
+        signature = formula_signature([formula])
+        self.assertEqual(signature.functions(),
+                         [("not", 2), ("and", 2), ("or", 0), ("implies", 1), ("iff", 1), ("equals", 0)])
+        self.assertEqual(signature.predicates(), [("equal", 1), ("and2", 0)])
+        self.assertEqual(free_variables(formula), [])
+        self.assertEqual(free_variables(formula[2]), ["X"])
+        self.assertEqual(len(formula_literals(formula)), 3)
+        literal = ("equal", ("equal", ("equal", "X", "Y"), ("not", "Z")), ("a",))
+        self.assertEqual(formula_literals(literal), [(True, *literal[1:])])
+        self.assertEqual(free_variables(literal), ["X", "Y", "Z"])
+
     def test_equal_literals_are_all_listed(self):
         self.assertEqual(len(formula_literals(read_formula("p & p | ~p"))), 3)
 

@@ -13,36 +13,41 @@ import elenchus
 FOLDER = os.path.dirname(elenchus.__file__)
 
 BUILTINS = """
-len range enumerate zip min max sum abs sorted reversed int str bool bytes list tuple dict set frozenset isinstance ord repr
-any all divmod pow getattr hasattr setattr iter next map super property staticmethod classmethod object print Exception
-ValueError TypeError KeyError IndexError LookupError ZeroDivisionError ArithmeticError OverflowError RuntimeError
-NotImplementedError AttributeError StopIteration NotImplemented
+len range enumerate zip min max sum abs sorted reversed int str bool bytes list tuple dict set
+frozenset isinstance ord repr any all divmod pow getattr hasattr setattr iter next map super
+property staticmethod classmethod object print Exception ValueError TypeError KeyError IndexError
+LookupError ZeroDivisionError ArithmeticError OverflowError RuntimeError NotImplementedError
+AttributeError StopIteration NotImplemented
 """.split()
 
 METHODS = """
-append clear copy count endswith extend find get index insert isalnum isalpha isdigit islower isspace isupper items join
-keys ljust lower lstrip partition pop remove replace reverse rfind rjust rpartition rsplit rstrip setdefault split
-splitlines startswith strip update upper values zfill bit_length add discard sort format title capitalize swapcase casefold
-center expandtabs removeprefix removesuffix rindex isascii isdecimal isnumeric istitle isidentifier isprintable translate
+append clear copy count endswith extend find get index insert isalnum isalpha isdigit islower
+isspace isupper items join keys ljust lower lstrip partition pop remove replace reverse rfind rjust
+rpartition rsplit rstrip setdefault split splitlines startswith strip update upper values zfill
+bit_length add discard sort format title capitalize swapcase casefold center expandtabs removeprefix
+removesuffix rindex isascii isdecimal isnumeric istitle isidentifier isprintable translate
 """.split()
 
 BARRED_ATTRIBUTES = """
-items keys values pop update append clear extend insert remove reverse setdefault sort args encode decode hex fromhex format
+items keys values pop update append clear extend insert remove reverse setdefault sort args encode
+decode hex fromhex format
 """.split()
 
 SPECIAL_METHODS = """
-__init__ __eq__ __repr__ __str__ __len__ __enter__ __exit__ __call__ __iter__ __lt__ __le__ __gt__ __ge__ __ne__
-__contains__ __getitem__ __setitem__ __bool__
+__init__ __eq__ __repr__ __str__ __len__ __enter__ __exit__ __call__ __iter__ __lt__ __le__ __gt__
+__ge__ __ne__ __contains__ __getitem__ __setitem__ __bool__
 """.split()
 
 UNUSED_NAMES = """
-register mro elements open input law version_info with_traceback add_note attrgetter breakpoint builtins compile copyright
-credits delattr dir eval exec exit gc globals help id importlib license locals methodcaller os quit type vars sys
+register mro elements open input law version_info with_traceback add_note attrgetter breakpoint
+builtins compile copyright credits delattr dir eval exec exit gc globals help id importlib license
+locals methodcaller os quit type vars sys
 """.split()
 
 UNUSED_WORDS = """
-type typing typing_extensions enum Enum IntEnum StrEnum Flag IntFlag Generic Protocol ABC ABCMeta namedtuple NamedTuple
-TypedDict TYPE_CHECKING abstractmethod dataclass overload contextmanager _wall _WallAttr
+type typing typing_extensions enum Enum IntEnum StrEnum Flag IntFlag Generic Protocol ABC ABCMeta
+namedtuple NamedTuple TypedDict TYPE_CHECKING abstractmethod dataclass overload contextmanager _wall
+_WallAttr
 """.split()
 
 INTERFACE = {

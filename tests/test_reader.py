@@ -250,6 +250,9 @@ class Clauses(ReaderTest):
         self.assert_error(read_clause, f"~f({deep})", 1, 83, "nesting too deep")
         self.assert_error(read_clause, f"a = f({deep})", 1, 86, "nesting too deep")
         self.assertEqual(len(read_clause(" | ".join(["p(a)"] * 50))), 50)
+        wide = "f(" * 39 + "g(a),g(a),g(" + "X0" + ")" * 40
+        self.assertEqual(read_clause(f"p | {wide} = {wide}")[1][1], read_term(wide))
+        self.assert_error(read_term, "f(" * 39 + "g(a),g(g(", 1, 78 + 9, "nesting too deep")
 
     def test_nine_arguments(self):
         self.assert_errors(read_clause, "too many arguments", ["p(a,b,c,d,e,f,g,h^,i)", "a = f(a,b,c,d,e,f,g,h^,"])
@@ -317,6 +320,16 @@ class OpenTokens(ReaderTest):
         many = [f"axiom s{k}: ~~~(a -> all X: p(f(X)))." for k in range(100)]
         self.assertEqual(len(read_statements(" ".join(many))), 100)
 
+    def test_other_tokens_stay_open(self):
+        outside = "(" * 38
+        for part in ["a", "a = b", "p(a)", "p(f(b))", "~a", "~~a", "(a)", "(a -> b)", "(all X: a)", "~p(b)",
+                     "p(b) != f(a)"]:
+            with self.subTest(part=part):
+                read_formula(f"{outside}{part} & ((a)){')' * 38}")
+                text = f"{outside}{part} & ("
+                self.assert_error(read_formula, f"{text}((a", 1, len(text) + 2, "nesting too deep")
+                self.assert_error(read_formula, f"{text}~~a", 1, len(text) + 2, "nesting too deep")
+
     def test_a_negation_is_complete_at_the_end_of_its_operand(self):
         inside = "(" * 39 + "~a -> b" + ")" * 39
         self.assertEqual(read_formula(inside), ("implies", ("not", A), B))
@@ -343,12 +356,15 @@ class Heights(ReaderTest):
 
     def test_heights_of_40_and_41(self):
         for text in [" & ".join(["a"] * 40), " | ".join(["a"] * 40), "~" * 39 + "a", "a -> " * 39 + "a",
-                     "all X: " * 39 + "a", "~" * 38 + "a != b", "a != b" + " & a" * 38, "(" * 40 + "a" + ")" * 40]:
+                     "all X: " * 39 + "a", "~" * 38 + "a != b", "a != b" + " & a" * 38, "~" * 39 + "a = b",
+                     " | ".join(["true"] * 40), "~" * 39 + "false", "all X: " * 38 + "a != b",
+                     "(" * 40 + "a" + ")" * 40]:
             with self.subTest(text=text):
                 formula = read_formula(text)
                 self.assertEqual(read_statements(f"axiom one: {text}."), [("axiom", "one", formula)])
         for text in [" & ".join(["a"] * 41), " | ".join(["true"] * 41), "~" * 40 + "a", "a -> " * 40 + "a",
-                     "all X: " * 40 + "a", "some X,Y: " * 20 + "a", "~" * 39 + "a != b", "a != b" + " & a" * 39,
+                     "all X: " * 40 + "a", "some X,Y: " * 20 + "a", "~" * 39 + "a != b", "~" * 40 + "a = b",
+                     "~" * 40 + "false", "all X: " * 39 + "a != b", "a != b" + " & a" * 39,
                      "~(" + " | ".join(["a"] * 40) + ")", "a <-> " + " & ".join(["a"] * 40)]:
             with self.subTest(text=text):
                 self.assert_error(read_formula, text, 1, len(text) + 1, "formula too high")

@@ -104,6 +104,10 @@ class Formulas(unittest.TestCase):
                     with self.subTest(formula=formula):
                         self.assertEqual(read_formula(show_formula(formula)), formula)
 
+    def test_symbols_with_the_names_of_kinds(self):
+        self.check(("not", ("equal", ("equal", ("not", ("all2",))), TRUE)), "~equal(not(all2))")
+        self.check(("equal", ("and", ("or",), ("iff",)), ("implies",)), "and(or,iff) = implies")
+
     def test_a_nested_formula(self):
         formula = ("iff", ("or", P, ("and", Q, P)), ("implies", ("not", Q), ("all", "X", ("or", P, Q))))
         self.check(formula, "((p | (q & p)) <-> (~q -> (all X: (p | q))))")

@@ -172,6 +172,14 @@ class Skolemizing(unittest.TestCase):
         result.skolem_symbols.clear()
         self.assertEqual(result.skolem_symbols, ["sk1"])
 
+    def test_symbols_with_the_names_of_kinds(self):
+        body = ("equal", ("equal", ("equal", "V1", "V2"), ("not", "V2")), ("or", "V1", "V2"))
+        formula = quantified([("all", "V1"), ("some", "V2")], ("and", body, ("not", body)))
+        self.assertEqual(rename_bound(formula), formula)
+        term = ("sk1", "V1")
+        matrix = ("equal", ("equal", ("equal", "V1", term), ("not", term)), ("or", "V1", term))
+        self.assertEqual(skolemize(formula).matrix, ("and", matrix, ("not", matrix)))
+
     def test_large_terms(self):
         large = ("f", *["V1"] * 900)
         result = skolemize(quantified([("all", "V2"), ("some", "V1")], atom("p", large)))
