@@ -1,8 +1,10 @@
 """Finite structures, and what holds in them."""
 
+from elenchus.clauses import clause_variables
 from elenchus.errors import InvalidStructure, MissingVariable
 from elenchus.formulas import free_variables
-from elenchus.terms import TRUE, is_variable, variables_of
+from elenchus.integers import is_integer
+from elenchus.terms import TRUE, is_variable
 
 
 class Structure:
@@ -113,11 +115,6 @@ class Structure:
                 and self._functions == other._functions and self._predicates == other._predicates)
 
 
-def is_integer(value):
-    """Return True for an integer; True and False are none here."""
-    return isinstance(value, int) and not isinstance(value, bool)
-
-
 def is_element(value, size):
     """Return True if the value is an element of a structure of this size."""
     return is_integer(value) and 0 <= value < size
@@ -209,8 +206,7 @@ def formula_holds(structure, formula):
 
 def counterexample(structure, clause):
     """Return the first assignment under which the clause does not hold, or None."""
-    names = variables_of([side for literal in clause for side in literal[1:]])
-    for assignment in assignments(names, structure.size):
+    for assignment in assignments(clause_variables(clause), structure.size):
         if not structure.clause_holds_at(clause, assignment):
             return assignment
     return None

@@ -66,6 +66,15 @@ INTERFACE = {
     "negation": ["negation_normal(formula)", "normal_size(formula, *, negated=False)"],
     "skolem": ["close(formula)", "rename_bound(formula)", "skolemize(formula, *, taken=())",
                "skolem_tables(structure, skolemization)"],
+    "clausify": ["matrix_clauses(matrix, *, limit=200)", "clausify(axioms, *, limit=200)"],
+    "ordering": ["literal_terms(literal)", "compare_literals(ordering, first, second)",
+                 "compare_clauses(ordering, first, second)",
+                 "is_maximal(ordering, clause, index, *, strictly=False)"],
+    "selection": ["selected(ordering, clause, selection)",
+                  "eligible(ordering, clause, index, substitution, selection, *, strictly=False)"],
+    "clauses": ["alike(literal, other)", "opposite(literal, other)", "is_tautology(clause)", "normal(clause)",
+                "literal_weight(literal)", "clause_weight(clause)", "clause_variables(clause)",
+                "shift_clause(clause, by)", "rename_apart(first, second)"],
 }
 
 CLASSES = {
@@ -78,6 +87,10 @@ CLASSES = {
         "value(self, term, assignment)", "literal_holds(self, literal, assignment)",
         "clause_holds_at(self, clause, assignment)", "formula_holds_at(self, formula, assignment)",
         "completed(self, signature)", "renamed(self, signature, permutation)", "__eq__(self, other)"],
+    ("clausify", "ClauseForm"): ["__len__(self)", "__iter__(self)"],
+    ("weights", "Ordering"): [
+        "__init__(self, weights, precedence)", "symbol_weight(self, symbol)", "ranks_higher(self, first, second)",
+        "weight(self, term)", "compare(self, first, second)"],
 }
 
 
@@ -239,7 +252,8 @@ class Interface(unittest.TestCase):
                 self.assertEqual(method.__name__ + str(inspect.signature(method)), line)
 
     def test_properties(self):
-        cases = [("structures", "Structure", "size"), ("skolem", "Skolemization", "skolem_symbols")]
+        cases = [("structures", "Structure", "size"), ("skolem", "Skolemization", "skolem_symbols"),
+                 ("weights", "Ordering", "precedence")]
         for name, word, attribute in cases:
             thing = getattr(importlib.import_module(f"elenchus.{name}"), word)
             self.assertIsInstance(vars(thing)[attribute], property)
