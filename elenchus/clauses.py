@@ -1,7 +1,7 @@
 """Clauses: what their literals have to do with each other, their normal form and their variables."""
 
 from elenchus.terms import TRUE, replace_variables, shift, size, variables_of
-from elenchus.unify import apply
+from elenchus.unify import apply, match_all
 
 
 def is_equation(literal):
@@ -89,3 +89,19 @@ def apply_clause(substitution, clause):
 def without_literal(clause, index):
     """Return the clause without the literal at the index."""
     return clause[:index] + clause[index + 1:]
+
+
+def matchings(literal, other):
+    """Return the substitutions that make the sides of the literal those of the other one; signs do not count.
+
+    The sides as written come first; those of two equations also match in the opposite order.
+    """
+    if is_equation(literal) != is_equation(other):
+        return []
+    orders = [other, exchanged(other)] if is_equation(other) else [other]
+    found = []
+    for _, left, right in orders:
+        bound = match_all([(literal[1], left), (literal[2], right)])
+        if bound is not None and bound not in found:
+            found.append(bound)
+    return found

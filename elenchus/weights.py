@@ -65,9 +65,10 @@ class Ordering:
             result = self._compare_symbols(first, second)
         else:
             result = "greater" if heavier > 0 else "less"
-        if result == "greater" and min(more.values(), default=0) < 0:
+        surplus = list(more.values())
+        if result == "greater" and min(surplus, default=0) < 0:
             return "incomparable"
-        if result == "less" and max(more.values(), default=0) > 0:
+        if result == "less" and max(surplus, default=0) > 0:
             return "incomparable"
         return result
 

@@ -75,6 +75,14 @@ INTERFACE = {
     "clauses": ["alike(literal, other)", "opposite(literal, other)", "is_tautology(clause)", "normal(clause)",
                 "literal_weight(literal)", "clause_weight(clause)", "clause_variables(clause)",
                 "shift_clause(clause, by)", "rename_apart(first, second)"],
+    "subsumption": ["subsuming_substitution(clause, other)", "subsumes(clause, other)", "are_variants(clause, other)"],
+    "superposition": ["superpose(ordering, selection, first, second, source, target)",
+                      "superpositions(ordering, selection, first, second)"],
+    "equality": ["resolve(ordering, selection, clause, index)", "factor(ordering, selection, clause, first, second)",
+                 "resolutions(ordering, selection, clause)", "factorings(ordering, selection, clause)"],
+    "simplify": ["clean(clause)", "rewrite_at(ordering, clause, rule, rule_side, index, side, position)",
+                 "cut_at(clause, cutter, index)", "simplify(ordering, clause, units)",
+                 "reduces(ordering, clause, clauses)"],
 }
 
 CLASSES = {
@@ -91,6 +99,12 @@ CLASSES = {
     ("weights", "Ordering"): [
         "__init__(self, weights, precedence)", "symbol_weight(self, symbol)", "ranks_higher(self, first, second)",
         "weight(self, term)", "compare(self, first, second)"],
+    ("subsumption", "ClauseSet"): [
+        "__init__(self)", "insert(self, clause)", "clause(self, number)", "numbers(self)", "subsumer(self, clause)",
+        "has_variant(self, clause)", "__len__(self)", "__iter__(self)"],
+    ("tree", "TermTree"): [
+        "__init__(self)", "add(self, term, value)", "discard(self, term, value)", "generalizations(self, term)",
+        "instances(self, term)", "unifiable(self, term)", "variants(self, term)", "entries(self)"],
 }
 
 
@@ -253,7 +267,7 @@ class Interface(unittest.TestCase):
 
     def test_properties(self):
         cases = [("structures", "Structure", "size"), ("skolem", "Skolemization", "skolem_symbols"),
-                 ("weights", "Ordering", "precedence")]
+                 ("weights", "Ordering", "precedence"), ("tree", "TermTree", "node_count")]
         for name, word, attribute in cases:
             thing = getattr(importlib.import_module(f"elenchus.{name}"), word)
             self.assertIsInstance(vars(thing)[attribute], property)

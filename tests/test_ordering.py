@@ -215,6 +215,8 @@ class Maximal(unittest.TestCase):
         clause = ((True, A, B), (True, f(A), B), (True, B, f(A)))
         self.assertEqual(self.places(clause), [1, 2])
         self.assertEqual(self.places(clause, strictly=True), [])
+        self.assertIs(is_maximal(ORDERING, clause, 2), True)
+        self.assertIs(is_maximal(ORDERING, clause, 0), False)
         self.assertEqual(self.places((p(f(A)), p(A), p(A)), strictly=True), [0])
 
     def test_incomparable_literals(self):

@@ -112,6 +112,8 @@ class Eligible(unittest.TestCase):
             self.assertEqual(self.places(clause, {0: A}, selection, strictly=True), [1])
             self.assertEqual(self.places(clause, {0: B, 1: B}, selection), [0, 1])
             self.assertEqual(self.places(clause, {0: B, 1: B}, selection, strictly=True), [])
+            self.assertIs(eligible(ORDERING, clause, 0, {0: B, 1: B}, selection), True)
+            self.assertIs(eligible(ORDERING, clause, 2, {0: B, 1: B}, selection), False)
             self.assertEqual(self.places(clause, {0: f(A), 1: B}, selection, strictly=True), [0])
 
     def test_selection_looks_at_the_clause_before_the_substitution(self):
