@@ -22,12 +22,15 @@ def resolve(ordering, selection, clause, index):
 def resolutions(ordering, selection, clause):
     """Return (index, conclusion, raw, substitution) of every equality resolution of the clause."""
     check_selection(selection)
-    found = []
+    return list(each_resolution(ordering, selection, clause))
+
+
+def each_resolution(ordering, selection, clause):
+    """Yield what `resolutions` returns, each only when it is asked for."""
     for index in negative_equations(clause):
         result = resolve(ordering, selection, clause, index)
         if result is not None:
-            found.append((index,) + result)
-    return found
+            yield (index,) + result
 
 
 def negative_equations(clause):
@@ -61,11 +64,14 @@ def factor(ordering, selection, clause, first, second):
 def factorings(ordering, selection, clause):
     """Return (first, second, conclusion, raw, substitution) of every equality factoring of the clause."""
     check_selection(selection)
+    return list(each_factoring(ordering, selection, clause))
+
+
+def each_factoring(ordering, selection, clause):
+    """Yield what `factorings` returns, each only when it is asked for."""
     places = positive_sides(clause)
-    found = []
     for first in places:
         for second in places:
             result = factor(ordering, selection, clause, first, second)
             if result is not None:
-                found.append((first, second) + result)
-    return found
+                yield (first, second) + result

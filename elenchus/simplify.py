@@ -121,16 +121,28 @@ def first_cut(clause, cutters):
 
 def reduces(ordering, clause, clauses):
     """Return True if the clause reduces in the list of clauses."""
-    units = [(number, unit) for number, unit in enumerate(clauses) if len(unit) == 1]
-    rules = oriented_rules(units)
-    cutters = cutters_of(units)
-    current = clause
-    while not is_redundant(current, clauses):
-        step = next_step(ordering, current, rules, cutters)
-        if step is None:
-            return False
-        current = step[1]
-    return True
+    return Reducer(ordering, clauses).accepts(clause)
+
+
+class Reducer:
+    """A list of clauses, in which many clauses may be asked to reduce."""
+
+    def __init__(self, ordering, clauses):
+        units = [(number, unit) for number, unit in enumerate(clauses) if len(unit) == 1]
+        self._ordering = ordering
+        self._clauses = list(clauses)
+        self._rules = oriented_rules(units)
+        self._cutters = cutters_of(units)
+
+    def accepts(self, clause):
+        """Return True if the clause reduces in the list."""
+        current = clause
+        while not is_redundant(current, self._clauses):
+            step = next_step(self._ordering, current, self._rules, self._cutters)
+            if step is None:
+                return False
+            current = step[1]
+        return True
 
 
 def is_redundant(clause, clauses):

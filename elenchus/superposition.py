@@ -19,14 +19,17 @@ def superpose(ordering, selection, first, second, source, target):
 def superpositions(ordering, selection, first, second):
     """Return (source, target, conclusion, raw, substitution) of every superposition from the first into the second."""
     check_selection(selection)
+    return list(each_superposition(ordering, selection, first, second))
+
+
+def each_superposition(ordering, selection, first, second):
+    """Yield what `superpositions` returns, each only when it is asked for."""
     renamed = rename_apart(first, second)
-    found = []
     for source in positive_sides(first):
         for target in allowed_targets(first[source[0]], renamed):
             result = superposed(ordering, selection, first, renamed, source, target)
             if result is not None:
-                found.append((source, target) + result)
-    return found
+                yield (source, target) + result
 
 
 def allowed_targets(literal, clause):

@@ -83,6 +83,11 @@ INTERFACE = {
     "simplify": ["clean(clause)", "rewrite_at(ordering, clause, rule, rule_side, index, side, position)",
                  "cut_at(clause, cutter, index)", "simplify(ordering, clause, units)",
                  "reduces(ordering, clause, clauses)"],
+    "saturation": ["open_inference(ordering, selection, clauses)", "covers(ordering, clauses, clause)"],
+    "rewriting": ["ground_terms(ordering, clauses, weight)"],
+    "derivation": ["predicates(clauses)", "step_error(inputs, steps, number)", "check(inputs, steps)",
+                   "is_refutation(inputs, steps)", "conclude(inputs, steps, rule, premises, data)", "needed(steps)",
+                   "prune(steps)", "used_inputs(steps)"],
 }
 
 CLASSES = {
@@ -105,6 +110,15 @@ CLASSES = {
     ("tree", "TermTree"): [
         "__init__(self)", "add(self, term, value)", "discard(self, term, value)", "generalizations(self, term)",
         "instances(self, term)", "unifiable(self, term)", "variants(self, term)", "entries(self)"],
+    ("rewriting", "RewritingModel"): [
+        "__init__(self, ordering, clauses, *, selection=0)", "rules(self, weight)", "normal_form(self, term)",
+        "is_true(self, clause)"],
+    ("passive", "Passive"): [
+        "__init__(self, *, by_weight=4, by_age=1)", "add(self, number, weight)", "take(self)", "__len__(self)",
+        "__contains__(self, number)", "__iter__(self)"],
+    ("loop", "Prover"): [
+        "__init__(self, ordering, *, selection=0, by_weight=4, by_age=1)", "add(self, clause)", "run(self, steps)",
+        "record(self, number)"],
 }
 
 
@@ -267,7 +281,8 @@ class Interface(unittest.TestCase):
 
     def test_properties(self):
         cases = [("structures", "Structure", "size"), ("skolem", "Skolemization", "skolem_symbols"),
-                 ("weights", "Ordering", "precedence"), ("tree", "TermTree", "node_count")]
+                 ("weights", "Ordering", "precedence"), ("tree", "TermTree", "node_count"), ("loop", "Prover", "history"),
+                 ("loop", "Prover", "active"), ("loop", "Prover", "waiting")]
         for name, word, attribute in cases:
             thing = getattr(importlib.import_module(f"elenchus.{name}"), word)
             self.assertIsInstance(vars(thing)[attribute], property)
