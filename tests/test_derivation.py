@@ -19,7 +19,7 @@ B = ("b",)
 INPUTS = [read_clause(text) for text in (
     "f(X0) = a", "~p(X0) | q(X0)", "p(f(b))", "f(b) != a", "a = b | a = b | c = c", "a != a | p(b) | X0 != X0",
     "f(a) = b | f(a) = c | f(b) = c", "p(a) | p(a) | ~p(a)", "true | ~true | p(X1)", "g(f(a), X0) = X0 | q(g(X0, f(a)))",
-    "~p(f(b)) | a != b | ~q(X3)", "b = X0")]
+    "~p(f(b)) | a != b | ~q(X3)", "b = X0", "c != g(f(a), b)")]
 
 
 def start(*numbers):
@@ -151,6 +151,10 @@ class Rules(unittest.TestCase):
         self.check_rule([4, 10], "replace", (0, 1), (0, 1, 0, ()), "a = b | c = c | ~p(f(b)) | b != b | ~q(X3)")
         self.check_rule([4, 10], "replace", (0, 1), (2, 1, 1, ()), "condition")
         self.check_rule([11, 10], "replace", (0, 1), (0, 1, 1, ()), "~p(f(b)) | a != X0 | ~q(X3)")
+        self.check_rule([11, 12], "replace", (0, 1), (0, 0, 1, (2,)), "c != g(f(a),X0)")
+        self.check_rule([6, 12], "replace", (0, 1), (0, 0, 1, (1,)), "f(a) = c | f(b) = c | c != g(b,b)")
+        self.check_rule([6, 12], "replace", (0, 1), (0, 0, 1, (3,)), "data")
+        self.check_rule([6, 12], "replace", (0, 1), (0, 0, 0, (1,)), "data")
         self.check_rule([2, 10], "replace", (0, 1), (0, 0, 0, ()), "~true | a != b | ~q(X3)")
         self.check_rule([8, 8], "replace", (0, 1), (0, 2, 1, ()), "~true | p(X1) | true | ~true | p(X1)")
         self.check_rule([6], "replace", (0, 0), (0, 1, 0, ()), "f(a) = c | f(b) = c | f(a) = b | b = c | f(b) = c")
@@ -171,9 +175,11 @@ class Rules(unittest.TestCase):
             premises = tuple(range(len(numbers)))
             for data in wrong_data(rule, good):
                 self.check_rule(numbers, rule, premises, data, "data")
+        for side in (True, False, None, "0", -1, 2):
+            self.check_rule([0, 10], "replace", (0, 1), (0, 1, side, ()), "data")
 
     def test_indexes_that_just_exist(self):
-        self.check_rule([], "input", (), (len(INPUTS) - 1,), "b = X0")
+        self.check_rule([], "input", (), (len(INPUTS) - 1,), "c != g(f(a),b)")
         self.check_rule([], "input", (), (len(INPUTS),), "data")
         self.check_rule([6], "swap", (0,), (2,), "f(a) = b | f(a) = c | c = f(b)")
         self.check_rule([6], "swap", (0,), (3,), "data")

@@ -234,6 +234,8 @@ class Rules(unittest.TestCase):
     def test_a_literal_that_is_maximal_but_not_strictly(self):
         self.assertEqual(self.rules("b = a | a = b"), [])
         self.assertEqual(self.rules("b = a | b = a"), [])
+        self.assertEqual(self.rules("f(a) = a | b = a | a = f(a)", weight=2), [])
+        self.assertEqual(self.rules("f(a) = a | b = a | a = f(b)", weight=2), ["f(b) -> a"])
         self.assertEqual(self.rules("p(X0) | p(a)", "b = b", weight=2), ["p(b) -> true"])
 
     def test_a_negative_literal_that_is_maximal(self):

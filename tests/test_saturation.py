@@ -123,6 +123,24 @@ class OpenInferences(unittest.TestCase):
                 kinds.add(found[0] if found else None)
         self.assertEqual(kinds, {None, "superposition", "resolution", "factoring"})
 
+    def test_the_conclusion_and_not_the_raw_one_must_reduce(self):
+        # The last clause subsumes q(a) | q(a), but not q(a).
+        ordering = Ordering({"p": 9, "f": 9}, [])
+        for selection, texts, found in [
+                (1, ["~p(X0) | q(X0)", "p(a) | q(a)", "q(X0) | q(X1)"], ("superposition", 1, 0)),
+                (1, ["f(X0) != f(a) | q(X0) | q(a)", "q(X0) | q(X1)"], ("resolution", 0, 0)),
+                (0, ["p(X0) | p(a) | q(X0) | q(a)", "p(X0) | q(X1) | q(X2)"], ("factoring", 0, (0, 0)))]:
+            rows = clauses(*texts)
+            self.assertEqual(open_inference(ordering, selection, rows)[:3], found)
+            self.assertEqual(open_inference(ordering, selection, rows), by_hand(ordering, selection, rows))
+
+    def test_inferences_whose_conclusions_reduce(self):
+        for texts in (["f(X0) != f(a) | q(X0)", "q(a)"], ["p(X0, b) | p(a, X1)", "p(a, b)"],
+                      ["f(a) = b | p", "q(f(a)) | p", "q(b) | p"]):
+            rows = clauses(*texts)
+            self.assertNotEqual(inferences(ORDERING, 1, rows), [])
+            self.assertIsNone(open_inference(ORDERING, 1, rows), texts)
+
     def test_a_saturated_list_in_every_order_and_with_a_clause_twice(self):
         rows = clauses("f(f(X0)) = X0", "f(a) = b", "f(b) = a", "p(a)", "~p(b)")
         for order in itertools.permutations(rows):
