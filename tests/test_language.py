@@ -88,6 +88,13 @@ INTERFACE = {
     "derivation": ["predicates(clauses)", "step_error(inputs, steps, number)", "check(inputs, steps)",
                    "is_refutation(inputs, steps)", "conclude(inputs, steps, rule, premises, data)", "needed(steps)",
                    "prune(steps)", "used_inputs(steps)"],
+    "expansion": ["expand(inputs, records, number)", "supporting(records, number)"],
+    "finder": ["follows(clauses, clause)", "accepted(clauses, refutation)", "search(clauses, count, *, limit=1000)",
+               "find_structure(clauses, size, *, limit=1000)", "find_least(clauses, greatest, *, limit=1000)"],
+    "completion": ["rewrite(rules, term)", "normalize(rules, term)", "critical_pairs(first, second)",
+                   "converges(ordering, rules)", "complete(ordering, equations, steps)", "joined(rules, first, second)"],
+    "report": ["show_steps(steps)", "read_steps(lines)", "show_structure(structure)", "read_structure(lines)",
+               "report(answer, names)"],
 }
 
 CLASSES = {
@@ -119,6 +126,13 @@ CLASSES = {
     ("loop", "Prover"): [
         "__init__(self, ordering, *, selection=0, by_weight=4, by_age=1)", "add(self, clause)", "run(self, steps)",
         "record(self, number)"],
+    ("ground", "Grounding"): [
+        "__init__(self, clauses, size)", "clauses(self)", "meaning(self, number)",
+        "number(self, symbol, arguments, element=None)", "structure(self, numbers)"],
+    ("session", "Session"): [
+        "__init__(self, *, weights=None, precedence=(), selection=1, by_weight=4, by_age=1)", "add(self, text)",
+        "push(self)", "pop(self)", "statements(self)", "clauses(self)", "attempt(self, *, steps=100)",
+        "support(self, answer)", "structure(self, *, greatest=3, limit=1000)"],
 }
 
 
@@ -282,7 +296,7 @@ class Interface(unittest.TestCase):
     def test_properties(self):
         cases = [("structures", "Structure", "size"), ("skolem", "Skolemization", "skolem_symbols"),
                  ("weights", "Ordering", "precedence"), ("tree", "TermTree", "node_count"), ("loop", "Prover", "history"),
-                 ("loop", "Prover", "active"), ("loop", "Prover", "waiting")]
+                 ("loop", "Prover", "active"), ("loop", "Prover", "waiting"), ("ground", "Grounding", "variable_count"), ("session", "Session", "level")]
         for name, word, attribute in cases:
             thing = getattr(importlib.import_module(f"elenchus.{name}"), word)
             self.assertIsInstance(vars(thing)[attribute], property)
