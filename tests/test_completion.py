@@ -190,7 +190,8 @@ class CriticalPairs(unittest.TestCase):
         self.assertEqual(critical_pairs(pair("f(a) = b"), pair("f(a) = b")), [])
 
     def test_two_variants_of_a_rule(self):
-        self.assertEqual(shown(critical_pairs(pair("f(f(X0)) = X0"), pair("f(f(X1)) = X1"))), ["X0 = X0", "f(X2) = f(X2)"])
+        self.assertEqual(shown(critical_pairs(pair("f(f(X0)) = X0"), pair("f(f(X1)) = X1"))),
+                         ["X0 = X0", "f(X2) = f(X2)"])
         self.assertEqual(shown(critical_pairs(pair("f(X0) = a"), pair("f(X1) = a"))), ["a = a"])
 
     def test_the_same_left_side_with_another_right_side(self):
@@ -291,7 +292,8 @@ class Completion(unittest.TestCase):
         self.assertEqual(self.complete(1, "b = a", "b = a"), ("spent", None))
 
     def test_both_sides_are_normalized(self):
-        self.assertEqual(self.complete(9, "f(X0) = X0", "g(f(a), b) = f(f(c))"), ("complete", ["f(X0) = X0", "g(a,b) = c"]))
+        self.assertEqual(self.complete(9, "f(X0) = X0", "g(f(a), b) = f(f(c))"),
+                         ("complete", ["f(X0) = X0", "g(a,b) = c"]))
         self.assertEqual(self.complete(9, "f(X0) = X0", "f(a) = f(f(a))"), ("complete", ["f(X0) = X0"]))
 
     def test_an_equation_that_cannot_be_oriented(self):
@@ -321,8 +323,10 @@ class Completion(unittest.TestCase):
         # With enough critical pairs, the order of the equations decides the order of the rules.
         choice = random.Random(115)
         answers = []
-        texts = ["f(f(X0)) = X0", "f(a) = b", "g(X0, a) = X0", "g(a, X0) = X0", "g(f(X0), X0) = a", "f(g(X0, X1)) = g(X1, X0)",
-                 "g(g(X0, X1), X2) = g(X0, g(X1, X2))", "g(X0, X0) = X0", "f(b) = c", "g(X0, f(X0)) = a", "f(X0) = g(X0, X0)",
+        texts = ["f(f(X0)) = X0", "f(a) = b", "g(X0, a) = X0", "g(a, X0) = X0", "g(f(X0), X0) = a",
+                 "f(g(X0, X1)) = g(X1, X0)",
+                 "g(g(X0, X1), X2) = g(X0, g(X1, X2))", "g(X0, X0) = X0", "f(b) = c", "g(X0, f(X0)) = a",
+                 "f(X0) = g(X0, X0)",
                  "g(f(X0), g(X0, X1)) = X1", "f(f(f(X0))) = f(X0)", "f(f(b)) = d", "g(a, b) = c"]
         for _ in range(150):
             rows = choice.sample(texts, choice.randint(2, 4))

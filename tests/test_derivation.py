@@ -18,7 +18,8 @@ B = ("b",)
 
 INPUTS = [read_clause(text) for text in (
     "f(X0) = a", "~p(X0) | q(X0)", "p(f(b))", "f(b) != a", "a = b | a = b | c = c", "a != a | p(b) | X0 != X0",
-    "f(a) = b | f(a) = c | f(b) = c", "p(a) | p(a) | ~p(a)", "true | ~true | p(X1)", "g(f(a), X0) = X0 | q(g(X0, f(a)))",
+    "f(a) = b | f(a) = c | f(b) = c", "p(a) | p(a) | ~p(a)", "true | ~true | p(X1)",
+    "g(f(a), X0) = X0 | q(g(X0, f(a)))",
     "~p(f(b)) | a != b | ~q(X3)", "b = X0", "c != g(f(a), b)")]
 
 
@@ -84,7 +85,8 @@ class Rules(unittest.TestCase):
         self.assertEqual(conclude(inputs, steps, "instance", (0,), ((0, ("f", 1)), (1, 2), (2, A))),
                          read_clause("r(f(X1), X2, a)"))
         steps.append(("instance", (0,), ((0, ("f", 1)),), read_clause("r(f(X1), X1, X2)")))
-        self.assertEqual(conclude(inputs, steps, "instance", (1,), ((1, ("f", 0)),)), read_clause("r(f(f(X0)), f(X0), X2)"))
+        self.assertEqual(conclude(inputs, steps, "instance", (1,), ((1, ("f", 0)),)),
+                         read_clause("r(f(f(X0)), f(X0), X2)"))
 
     def test_terms_that_are_not_plain(self):
         for term in (TRUE, ("p", A), ("q", A), ("p",), ("f", TRUE), ("g", A, ("f", ("p", 0))), nested(40, TRUE),
@@ -169,7 +171,8 @@ class Rules(unittest.TestCase):
         self.check_rule([7], "factor", (0,), (2, 0), "condition")
 
     def test_wrong_data(self):
-        for rule, good, numbers in [("input", (0,), []), ("swap", (0,), [6]), ("merge", (0, 1), [4]), ("drop", (0,), [5]),
+        for rule, good, numbers in [("input", (0,), []), ("swap", (0,), [6]), ("merge", (0, 1), [4]),
+                                    ("drop", (0,), [5]),
                                     ("resolve", (0, 0), [2, 10]), ("replace", (0, 1, 0, (1,)), [0, 10]),
                                     ("factor", (0, 1), [6]), ("instance", ((0, A),), [0])]:
             premises = tuple(range(len(numbers)))
@@ -189,7 +192,8 @@ class Rules(unittest.TestCase):
         self.check_rule([10, 2], "resolve", (0, 1), (3, 0), "data")
 
     def test_positions(self):
-        for position, answer in [((1, 1), "condition"), ((1, 2), "data"), ((2,), "data"), ((0,), "data"), ((-1,), "data"),
+        for position, answer in [((1, 1), "condition"), ((1, 2), "data"), ((2,), "data"), ((0,), "data"),
+                                 ((-1,), "data"),
                                  ((1, 1, 1), "data"), ((True,), "data"), (("1",), "data"), ([1], "data"), (1, "data"),
                                  (None, "data"), (((1,),), "data")]:
             self.check_rule([0, 10], "replace", (0, 1), (0, 0, 0, position), answer)
@@ -254,7 +258,8 @@ class Forms(unittest.TestCase):
         for _ in range(98):
             deep = ("f", deep)
             flat = (flat,)
-        for step in (None, True, 0, 5, "input", (), [], ("input",), ("input", (), (0,)), ("input", (), (0,), INPUTS[0], ()),
+        for step in (None, True, 0, 5, "input", (), [], ("input",), ("input", (), (0,)),
+                     ("input", (), (0,), INPUTS[0], ()),
                      ["input", (), (0,), INPUTS[0]], (None, (), (0,), INPUTS[0]), (0, (), (0,), INPUTS[0]),
                      (("input",), (), (0,), INPUTS[0]), (True, (), (0,), INPUTS[0]), ("input", [], (0,), INPUTS[0]),
                      ("input", 0, (0,), INPUTS[0]), ("input", (), [0], INPUTS[0]), ("input", (), 0, INPUTS[0]),
@@ -264,9 +269,12 @@ class Forms(unittest.TestCase):
             self.assertEqual(self.error(step), "form", step)
 
     def test_literals_that_are_no_literals(self):
-        for literal in ((), (True, A), (True, A, A, A), [True, A, A], (1, A, A), (0, A, A), (None, A, A), ("True", A, A),
-                        (True, True, A), (True, A, False), (True, -1, A), (True, A, "a"), (True, (), A), (True, A, ["a"]),
-                        (True, A, ("f", None)), (True, ("f", (0,)), A), (True, ("f", True), A), (True, nested(60, None), A),
+        for literal in ((), (True, A), (True, A, A, A), [True, A, A], (1, A, A), (0, A, A), (None, A, A),
+                        ("True", A, A),
+                        (True, True, A), (True, A, False), (True, -1, A), (True, A, "a"), (True, (), A),
+                        (True, A, ["a"]),
+                        (True, A, ("f", None)), (True, ("f", (0,)), A), (True, ("f", True), A),
+                        (True, nested(60, None), A),
                         (True, (A,), A), (True, None, A), A, "abc", None, 5):
             for clause in ((literal,), INPUTS[0] + (literal,)):
                 self.assertEqual(self.error(("input", (), (0,), clause)), "form", literal)
@@ -299,8 +307,10 @@ class Forms(unittest.TestCase):
             deep = [deep]
         for step, reason in [((deep, (), (), ()), "form"), (("swap", (deep,), (0,), ()), "premise"),
                              (("swap", (0,), (deep,), ()), "data"), (("swap", (0,), (0,), (deep,)), "form"),
-                             (("swap", (0,), (0,), ((True, deep, A),)), "form"), (("instance", (0,), ((0, deep),), ()), "data"),
-                             (("instance", (0,), (deep,), ()), "data"), (("replace", (0, 1), (0, 0, 0, (deep,)), ()), "data"),
+                             (("swap", (0,), (0,), ((True, deep, A),)), "form"),
+                             (("instance", (0,), ((0, deep),), ()), "data"),
+                             (("instance", (0,), (deep,), ()), "data"),
+                             (("replace", (0, 1), (0, 0, 0, (deep,)), ()), "data"),
                              (("replace", (0, 1), (0, 0, deep, ()), ()), "data")]:
             self.assertEqual(self.error(step), reason)
 
@@ -429,7 +439,8 @@ class Pruning(unittest.TestCase):
                                 read_clause("f(b) = c | b != c | c = c | f(b) = c | b != c"))]
         self.assertTrue(check(INPUTS, steps))
         self.assertEqual(needed(steps), [1, 2, 3])
-        self.assertEqual(prune(steps), [steps[1], steps[2][:1] + ((0,),) + steps[2][2:], steps[3][:1] + ((1, 1),) + steps[3][2:]])
+        self.assertEqual(prune(steps), [steps[1], steps[2][:1] + ((0,),) + steps[2][2:],
+                                        steps[3][:1] + ((1, 1),) + steps[3][2:]])
         self.assertTrue(check(INPUTS, prune(steps)))
 
     def test_an_input_that_is_taken_by_two_steps(self):

@@ -64,13 +64,15 @@ class Records(unittest.TestCase):
         self.assertEqual(expand(inputs, records, 2), [("input", (), (2,), ())])
 
     def test_inputs_that_are_not_in_normal_form(self):
-        inputs = [((True, ("f", 7), 4), (False, 4, 4), (True, 4, ("f", 7)), (True, ("p", 0), TRUE), (True, ("f", 7), 4)),
+        inputs = [((True, ("f", 7), 4), (False, 4, 4), (True, 4, ("f", 7)), (True, ("p", 0), TRUE),
+                   (True, ("f", 7), 4)),
                   ((True, 1, 0), (False, ("p", 0), TRUE), (True, 0, 1), (False, ("p", 0), TRUE), (True, 1, 0)),
                   ((True, 0, 0), (True, 0, 0), (True, 0, 0)), ((False, ("q",), TRUE),) * 3, ((True, 3, 9),)]
         records, _ = self.expand_all(inputs, 0)
         for number, clause in enumerate(inputs):
             self.assertEqual(records[number][3], normal(clause))
-        self.assertEqual([step[0] for step in expand(inputs, records, 0)], ["input", "swap", "merge", "merge", "instance"])
+        self.assertEqual([step[0] for step in expand(inputs, records, 0)],
+                         ["input", "swap", "merge", "merge", "instance"])
         self.assertEqual([step[0] for step in expand(inputs, records, 4)], ["input", "instance"])
 
     def test_trivial_literals_of_an_input_stay(self):
@@ -100,7 +102,8 @@ class Records(unittest.TestCase):
 
     def test_superpositions_of_atoms(self):
         records, rules = self.expand_all(clauses("p(X0, f(X1)) | r(X1)", "~p(g(X0, X1), X1) | q(X0)"), 2, selection=1)
-        self.assertEqual((records[-1][0], rules), ("superposition", ["input", "input", "instance", "instance", "resolve", "instance"]))
+        self.assertEqual((records[-1][0], rules), ("superposition",
+                                                   ["input", "input", "instance", "instance", "resolve", "instance"]))
 
     def test_a_clause_with_itself(self):
         records, rules = self.expand_all(clauses("f(f(X0)) = g(X0)"), 1)
@@ -130,7 +133,8 @@ class Records(unittest.TestCase):
             self.assertEqual({place[0] for place in places}, {True, False}, text)
 
     def test_factorings_of_atoms(self):
-        records, rules = self.expand_all(clauses("q(X1) | p(X0, b) | r(X2) | p(a, X1)"), 1, ordering=Ordering({"p": 9}, []))
+        records, rules = self.expand_all(clauses("q(X1) | p(X0, b) | r(X2) | p(a, X1)"), 1,
+                                         ordering=Ordering({"p": 9}, []))
         found = [record for record in records if record[0] == "factoring"]
         self.assertEqual([(first, second) for _, _, (first, second), _ in found], [((1, 0), (3, 0)), ((3, 0), (1, 0))])
         self.assertEqual(rules, ["input", "instance", "instance", "factor", "drop", "instance"])
@@ -138,7 +142,8 @@ class Records(unittest.TestCase):
     def test_conclusions_that_lose_merge_and_exchange_literals(self):
         ordering = Ordering({"p": 9, "h": 9}, ["a", "b", "c", "f", "g"])
         for texts, rules in [
-                (("~p(X0, X1) | X0 != a | X1 = X0 | q(X0)", "p(a, b) | b = a | q(a) | r"), {"drop", "merge", "resolve"}),
+                (("~p(X0, X1) | X0 != a | X1 = X0 | q(X0)", "p(a, b) | b = a | q(a) | r"),
+                 {"drop", "merge", "resolve"}),
                 (("~p(X0, X1) | b = X0 | q(X1)", "p(a, X2) | a = b | r(X2)"), {"swap", "merge", "resolve"}),
                 (("h(X0) = X0 | b = X0", "h(a) != a | a = b | X1 = X2 | r(X2)"), {"replace", "drop", "swap", "merge"}),
                 (("h(X0) != h(a) | X0 = b | b = a | a != X0", "r"), {"drop", "swap", "merge"}),
@@ -158,8 +163,10 @@ class Records(unittest.TestCase):
         self.assertEqual(set(steps), {"clean", "rewrite", "cut"})
 
     def test_cuts_in_both_orders(self):
-        for first, second in [("a != f(X0)", "a = f(b) | q"), ("f(X0) != a", "a = f(b) | q"), ("~p(X0, X1)", "q | p(X3, X3)"),
-                              ("f(X0) != g(X1, X2)", "f(X5) = g(X5, X6) | q"), ("f(X0) != g(X1, X2)", "g(X5, X6) = f(X5) | q")]:
+        for first, second in [("a != f(X0)", "a = f(b) | q"), ("f(X0) != a", "a = f(b) | q"),
+                              ("~p(X0, X1)", "q | p(X3, X3)"),
+                              ("f(X0) != g(X1, X2)", "f(X5) = g(X5, X6) | q"),
+                              ("f(X0) != g(X1, X2)", "g(X5, X6) = f(X5) | q")]:
             records, rules = self.expand_all(clauses(first, second), 2, by_weight=0)
             cuts = [number for number, record in enumerate(records) if record[0] == "simplify"]
             self.assertEqual([step[0] for step in records[cuts[0]][2]], ["cut"])
@@ -191,11 +198,14 @@ class Records(unittest.TestCase):
 
     def test_random_provers(self):
         choice = random.Random(102)
-        texts = ["f(X0) = X0", "f(a) = b | b = a", "p(X0) | f(X0) = a", "~p(a) | b = a", "p(f(X0)) | ~p(X0)", "p(b)", "~p(X0)",
-                 "f(X0) = f(X1) | p(X0)", "f(f(X0)) = a | X0 = b", "a != b | f(b) = a", "q | ~p(a)", "p(a) | p(X0) | ~q",
+        texts = ["f(X0) = X0", "f(a) = b | b = a", "p(X0) | f(X0) = a", "~p(a) | b = a", "p(f(X0)) | ~p(X0)", "p(b)",
+                 "~p(X0)",
+                 "f(X0) = f(X1) | p(X0)", "f(f(X0)) = a | X0 = b", "a != b | f(b) = a", "q | ~p(a)",
+                 "p(a) | p(X0) | ~q",
                  "q | a = b", "f(a) = X0 | X0 != b", "p(a) | ~q", "~q | ~p(b)", "f(b) != a", "g(X0, X1) = g(X1, X0)",
                  "g(g(X0, X1), X2) = g(X0, g(X1, X2))", "g(X0, a) = X0", "g(X0, X0) = a | q", "f(X0) != f(b) | q",
-                 "a = a | q", "b != b | p(f(b))", "r(X0, X1) | ~r(X1, X0)", "r(a, f(X0)) | X0 != a", "g(X4, X4) = a | a = b"]
+                 "a = a | q", "b != b | p(f(b))", "r(X0, X1) | ~r(X1, X0)", "r(a, f(X0)) | X0 != a",
+                 "g(X4, X4) = a | a = b"]
         rules = set()
         ends = 0
         for _ in range(120):
@@ -238,7 +248,8 @@ class Supporting(unittest.TestCase):
     def test_records_that_do_not_count_are_not_used(self):
         number = len(self.records) - 1
         used = supporting(self.records, number)
-        spoiled = [record if other in used else (record[0], (), None, None) for other, record in enumerate(self.records)]
+        spoiled = [record if other in used else (record[0], (), None, None)
+                   for other, record in enumerate(self.records)]
         self.assertNotEqual(spoiled, self.records)
         self.assertEqual(expand(self.inputs, spoiled, number), expand(self.inputs, self.records, number))
 

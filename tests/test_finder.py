@@ -298,7 +298,8 @@ class Structures(unittest.TestCase):
         rows = clauses("p(g(X0, X1)) | true", "q | ~q", "f(a) = f(a)")
         kind, structure = find_structure(rows, 2)
         self.assertEqual(kind, "structure")
-        self.assertEqual({symbol: len(table) for symbol, table in structure.functions().items()}, {"g": 4, "f": 2, "a": 1})
+        self.assertEqual({symbol: len(table) for symbol, table in structure.functions().items()},
+                         {"g": 4, "f": 2, "a": 1})
         self.assertEqual({symbol: len(table) for symbol, table in structure.predicates().items()}, {"p": 2, "q": 1})
 
     def test_the_least_size(self):
@@ -337,7 +338,8 @@ class Structures(unittest.TestCase):
 
     def test_no_structure_against_all_structures(self):
         choice = random.Random(110)
-        texts = ["f(f(X0)) = X0", "p(f(X0)) | p(X0)", "f(a) != a", "p(a) | ~p(f(X0))", "~q | X0 = X1", "X0 != f(X1) | p(X1)",
+        texts = ["f(f(X0)) = X0", "p(f(X0)) | p(X0)", "f(a) != a", "p(a) | ~p(f(X0))", "~q | X0 = X1",
+                 "X0 != f(X1) | p(X1)",
                  "f(X0) = a | q", "f(f(a)) = f(X1) | ~p(X1)", "q | ~p(X0)", "f(X0) != f(X1) | X0 = X1", "~q | f(a) = a",
                  "~p(a)", "f(X0) != X0", "p(X0) | ~q"]
         kinds = []

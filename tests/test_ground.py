@@ -39,7 +39,8 @@ class Numbers(unittest.TestCase):
         meanings = [grounding.meaning(number + 1) for number in range(grounding.variable_count)]
         expected = []
         for symbol, arity in [("g", 2), ("b", 0), ("a", 0), ("f", 1)]:
-            expected += [(symbol, row, element) for row in itertools.product(range(3), repeat=arity) for element in range(3)]
+            expected += [(symbol, row, element) for row in itertools.product(range(3), repeat=arity)
+                         for element in range(3)]
         for symbol, arity in [("q", 1), ("p", 2), ("r", 0)]:
             expected += [(symbol, row) for row in itertools.product(range(3), repeat=arity)]
         self.assertEqual(meanings, expected)
@@ -57,9 +58,12 @@ class Numbers(unittest.TestCase):
     def test_unknown_variables(self):
         grounding = Grounding(clauses("p(f(X0), a) | q"), 2)
         self.assertEqual(grounding.number("a", (), element=1), grounding.number("a", (), 1))
-        for wrong in [("g", (0,), 0), ("g", (0,)), ("r", ()), ("f", (), 0), ("f", (0, 0), 0), ("a", (0,), 0), ("f", (2,), 0),
-                      ("f", (-1,), 0), ("f", (0,), 2), ("f", (0,), -1), ("f", (0,)), ("a", ()), ("p", (0, 0), 0), ("q", (), 0),
-                      ("p", (0,)), ("p", (0, 0, 0)), ("p", (0, 2)), ("p", (-1, 0)), ("q", (0,)), ("true", ()), ("true", (), 0)]:
+        for wrong in [("g", (0,), 0), ("g", (0,)), ("r", ()), ("f", (), 0), ("f", (0, 0), 0), ("a", (0,), 0),
+                      ("f", (2,), 0),
+                      ("f", (-1,), 0), ("f", (0,), 2), ("f", (0,), -1), ("f", (0,)), ("a", ()), ("p", (0, 0), 0),
+                      ("q", (), 0),
+                      ("p", (0,)), ("p", (0, 0, 0)), ("p", (0, 2)), ("p", (-1, 0)), ("q", (0,)), ("true", ()),
+                      ("true", (), 0)]:
             with self.assertRaises(UnknownSymbol) as caught:
                 grounding.number(*wrong)
             self.assertEqual(caught.exception.symbol, wrong[0])
@@ -94,7 +98,8 @@ class FunctionClauses(unittest.TestCase):
 
     def test_values_of_a_constant(self):
         grounding = Grounding(clauses("a = a"), 4)
-        self.assertEqual(grounding.clauses()[:7], [[1, 2, 3, 4], [-1, -2], [-1, -3], [-1, -4], [-2, -3], [-2, -4], [-3, -4]])
+        self.assertEqual(grounding.clauses()[:7], [[1, 2, 3, 4], [-1, -2], [-1, -3], [-1, -4], [-2, -3], [-2, -4],
+                                                   [-3, -4]])
 
     def test_functions_in_order(self):
         grounding = Grounding(clauses("f(a) = X0"), 2)
@@ -149,7 +154,8 @@ class Instances(unittest.TestCase):
         self.assertEqual(instances(3, "X0 != X0"), [[], [], []])
 
     def test_equations_of_applications(self):
-        self.assertEqual(Grounding(clauses("a = b"), 2).clauses(), [[1, 2], [-1, -2], [3, 4], [-3, -4], [-1, -4], [-2, -3]])
+        self.assertEqual(Grounding(clauses("a = b"), 2).clauses(),
+                         [[1, 2], [-1, -2], [3, 4], [-3, -4], [-1, -4], [-2, -3]])
         self.assertEqual(instances(2, "a != b"), [[-1, -3], [-2, -4]])
         self.assertEqual(instances(2, "a = X0"), [[-2], [-1]])
 
@@ -260,7 +266,8 @@ class Sets(unittest.TestCase):
 
     def test_random_clauses(self):
         choice = random.Random(106)
-        texts = ["f(f(X0)) = X0", "p(f(X0)) | p(X0)", "f(a) != a", "p(a) | ~p(f(X0))", "~q | X0 = X1", "X0 != f(X1) | p(X1)",
+        texts = ["f(f(X0)) = X0", "p(f(X0)) | p(X0)", "f(a) != a", "p(a) | ~p(f(X0))", "~q | X0 = X1",
+                 "X0 != f(X1) | p(X1)",
                  "f(X0) = a | q", "f(f(a)) = f(X1) | ~p(X1)", "q | ~p(X0)", "f(X0) != f(X1) | X0 = X1", "~q | f(a) = a"]
         for _ in range(30):
             self.check_all(2, *choice.sample(texts, choice.randint(1, 4)))

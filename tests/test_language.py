@@ -92,7 +92,8 @@ INTERFACE = {
     "finder": ["follows(clauses, clause)", "accepted(clauses, refutation)", "search(clauses, count, *, limit=1000)",
                "find_structure(clauses, size, *, limit=1000)", "find_least(clauses, greatest, *, limit=1000)"],
     "completion": ["rewrite(rules, term)", "normalize(rules, term)", "critical_pairs(first, second)",
-                   "converges(ordering, rules)", "complete(ordering, equations, steps)", "joined(rules, first, second)"],
+                   "converges(ordering, rules)", "complete(ordering, equations, steps)",
+                   "joined(rules, first, second)"],
     "report": ["show_steps(steps)", "read_steps(lines)", "show_structure(structure)", "read_structure(lines)",
                "report(answer, names)"],
 }
@@ -295,8 +296,10 @@ class Interface(unittest.TestCase):
 
     def test_properties(self):
         cases = [("structures", "Structure", "size"), ("skolem", "Skolemization", "skolem_symbols"),
-                 ("weights", "Ordering", "precedence"), ("tree", "TermTree", "node_count"), ("loop", "Prover", "history"),
-                 ("loop", "Prover", "active"), ("loop", "Prover", "waiting"), ("ground", "Grounding", "variable_count"), ("session", "Session", "level")]
+                 ("weights", "Ordering", "precedence"), ("tree", "TermTree", "node_count"),
+                 ("loop", "Prover", "history"),
+                 ("loop", "Prover", "active"), ("loop", "Prover", "waiting"),
+                 ("ground", "Grounding", "variable_count"), ("session", "Session", "level")]
         for name, word, attribute in cases:
             thing = getattr(importlib.import_module(f"elenchus.{name}"), word)
             self.assertIsInstance(vars(thing)[attribute], property)

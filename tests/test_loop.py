@@ -150,7 +150,8 @@ class ByHand:
     def draw(self, number, clause):
         for other in [other for other in self.active if other != number] + [number]:
             for first, second in ((number, other), (other, number)) if other != number else ((number, number),):
-                for row in superpositions(self.ordering, self.selection, self.records[first][3], self.records[second][3]):
+                for row in superpositions(self.ordering, self.selection, self.records[first][3],
+                                          self.records[second][3]):
                     self.conclude("superposition", (first, second), row[:2], row[2])
         for row in resolutions(self.ordering, self.selection, clause):
             self.conclude("resolution", (number,), row[0], row[1])
@@ -160,7 +161,8 @@ class ByHand:
 
 def random_case(choice):
     """Return an ordering, settings and clauses."""
-    texts = ["f(X0) = X0", "f(a) = b | b = a", "p(X0) | f(X0) = a", "~p(a) | b = a", "p(f(X0)) | ~p(X0)", "p(b)", "~p(X0)",
+    texts = ["f(X0) = X0", "f(a) = b | b = a", "p(X0) | f(X0) = a", "~p(a) | b = a", "p(f(X0)) | ~p(X0)", "p(b)",
+             "~p(X0)",
              "f(X0) = f(X1) | p(X0)", "f(f(X0)) = a | X0 = b", "a != b | f(b) = a", "q | ~p(a)", "p(a) | p(X0) | ~q",
              "q | a = b", "f(a) = X0 | X0 != b", "p(a) | ~q", "~q | ~p(b)", "f(b) != a", "g(X0, X1) = g(X1, X0)",
              "g(g(X0, X1), X2) = g(X0, g(X1, X2))", "g(X0, a) = X0", "g(X0, X0) = a | q", "f(X0) != f(b) | q",
@@ -216,7 +218,8 @@ class Records(unittest.TestCase):
                                               ("factoring", (0,), ((1, 0), (0, 0)), read_clause("p(f(X0))"))])
 
     def test_a_simplification_and_its_premises(self):
-        prover = prover_of("p(f(g(b, b)), X5) | c = a | q", "a != c", "g(b, X0) = X0", "f(X0) = X0", by_weight=1, by_age=0)
+        prover = prover_of("p(f(g(b, b)), X5) | c = a | q", "a != c", "g(b, X0) = X0", "f(X0) = X0", by_weight=1,
+                           by_age=0)
         prover.run(3)
         self.assertEqual(prover.active, [1, 2, 3])
         prover.run(1)
@@ -236,7 +239,8 @@ class Records(unittest.TestCase):
     def test_a_simplification_that_only_cleans(self):
         prover = prover_of("a != a | p(X3)")
         prover.run(1)
-        self.assertEqual(prover.history[1:], [("simplify", (0,), [("clean", read_clause("p(X0)"))], read_clause("p(X0)"))])
+        self.assertEqual(prover.history[1:], [("simplify", (0,), [("clean", read_clause("p(X0)"))],
+                                               read_clause("p(X0)"))])
         self.assertEqual(prover.active, [1])
 
     def test_the_result_of_a_simplification_is_in_normal_form(self):
@@ -265,7 +269,8 @@ class Steps(unittest.TestCase):
         self.assertEqual(shown(prover)[2:], [("simplify", (1, 0), "p(a)")])
 
     def test_the_rules_are_taken_in_ascending_order(self):
-        prover = prover_of("f(X0) = g(c)", "f(a) = b", "p(f(a))", by_weight=1, by_age=1, ordering=Ordering({"f": 9}, []))
+        prover = prover_of("f(X0) = g(c)", "f(a) = b", "p(f(a))", by_weight=1, by_age=1,
+                           ordering=Ordering({"f": 9}, []))
         prover.run(1)
         self.assertEqual(prover.active, [1])
         prover.run(1)
@@ -286,7 +291,8 @@ class Steps(unittest.TestCase):
     def test_a_clause_that_is_dropped_after_its_simplification(self):
         prover = prover_of("f(X0) = X0", "p(a) | q", "p(f(a)) | r | q", "p(f(b)) | ~p(b)", by_weight=0)
         self.assertEqual(prover.run(4), ("saturated", [0, 1]))
-        self.assertEqual(shown(prover)[4:], [("simplify", (2, 0), "p(a) | r | q"), ("simplify", (3, 0), "p(b) | ~p(b)")])
+        self.assertEqual(shown(prover)[4:], [("simplify", (2, 0), "p(a) | r | q"),
+                                             ("simplify", (3, 0), "p(b) | ~p(b)")])
 
     def test_an_active_clause_that_is_subsumed_is_removed(self):
         prover = prover_of("p(a) | q", "p(X0)", by_weight=0)
@@ -308,7 +314,8 @@ class Steps(unittest.TestCase):
         prover = prover_of("b = a | q", "a != b", by_weight=0)
         prover.run(2)
         self.assertEqual((prover.active, prover.waiting), ([1], [2]))
-        self.assertEqual(prover.record(2), ("simplify", (0, 1), [("cut", read_clause("q"), 1, 0, {})], read_clause("q")))
+        self.assertEqual(prover.record(2), ("simplify", (0, 1), [("cut", read_clause("q"), 1, 0, {})],
+                                            read_clause("q")))
 
     def test_only_clauses_of_one_literal_simplify_active_ones(self):
         prover = prover_of("p(f(a))", "f(X0) = X0 | q", by_weight=0)
@@ -445,7 +452,8 @@ class Limits(unittest.TestCase):
 
     def test_a_conclusion_that_is_too_large_and_a_tautology(self):
         first = self.literals(6) + ((True, ("z",), TRUE),)
-        second = tuple((False, ("q" + str(k),), TRUE) for k in range(6)) + ((False, ("z",), TRUE), (False, ("p0",), TRUE))
+        second = tuple((False, ("q" + str(k),), TRUE) for k in range(6)) + ((False, ("z",), TRUE),
+                                                                            (False, ("p0",), TRUE))
         prover = prover_of(first, second, ordering=Ordering({"z": 9}, []))
         self.assertEqual(prover.run(9), ("limit", None))
 

@@ -92,7 +92,8 @@ LINES = [
 
 def random_step(choice):
     """Return a step that need not be correct."""
-    rule, premises, indexes = choice.choice([("input", 0, 1), ("instance", 1, 0), ("swap", 1, 1), ("merge", 1, 2), ("drop", 1, 1),
+    rule, premises, indexes = choice.choice([("input", 0, 1), ("instance", 1, 0), ("swap", 1, 1), ("merge", 1, 2),
+                                             ("drop", 1, 1),
                                              ("resolve", 2, 2), ("replace", 2, 3), ("factor", 1, 2)])
     data = tuple(choice.randrange(15) for _ in range(indexes))
     terms = [A, 0, 7, ("f", 1), ("g", ("f", A), 12)]
@@ -101,7 +102,9 @@ def random_step(choice):
     if rule == "replace":
         data += (tuple(choice.randint(1, 12) for _ in range(choice.randint(0, 3))),)
     literals = [(True, choice.choice(terms), choice.choice(terms)), (False, ("p", choice.choice(terms)), TRUE)]
-    return rule, tuple(choice.randrange(20) for _ in range(premises)), data, tuple(choice.choices(literals, k=choice.randint(0, 3)))
+    return rule, tuple(choice.randrange(20) for _ in range(premises)), data, tuple(choice.choices(literals,
+                                                                                                  k=choice.randint(0,
+                                                                                                                   3)))
 
 
 class ReadSteps(unittest.TestCase):
@@ -114,50 +117,64 @@ class ReadSteps(unittest.TestCase):
             self.assertEqual(error_of(read_steps, lines + [line] + rest), (number + 1, 1, "invalid step"), line)
 
     def test_numbers(self):
-        for line in ("2 swap 0 0: p", "0 swap 0 0: p", "01 swap 0 0: p", "+1 swap 0 0: p", "-1 swap 0 0: p", "swap 0 0: p",
-                     "x swap 0 0: p", "1.0 swap 0 0: p", " swap 0 0: p", "1 swap 00 0: p", "1 swap 0 00: p", "1 swap +0 0: p",
-                     "1 swap 0 +0: p", "1 swap 0 -1: p", "1 swap -1 0: p", "1 swap 0 01: p", "1 swap 0 1_0: p", "1 swap 0 x: p",
-                     "1 swap 0 X0: p", "1 swap 0 (0): p", "1 swap 0 1.0: p", "1 swap 0 \u0661: p", "1 swap 0 \u00b2: p"):
+        for line in ("2 swap 0 0: p", "0 swap 0 0: p", "01 swap 0 0: p", "+1 swap 0 0: p", "-1 swap 0 0: p",
+                     "swap 0 0: p",
+                     "x swap 0 0: p", "1.0 swap 0 0: p", " swap 0 0: p", "1 swap 00 0: p", "1 swap 0 00: p",
+                     "1 swap +0 0: p",
+                     "1 swap 0 +0: p", "1 swap 0 -1: p", "1 swap -1 0: p", "1 swap 0 01: p", "1 swap 0 1_0: p",
+                     "1 swap 0 x: p",
+                     "1 swap 0 X0: p", "1 swap 0 (0): p", "1 swap 0 1.0: p", "1 swap 0 \u0661: p",
+                     "1 swap 0 \u00b2: p"):
             self.check_line(line)
         self.check_line("1 input 0: p", 0)
         self.check_line("00 input 0: p", 0)
         self.check_line("1 swap 0 " + "9" * 5000 + ": p")
 
     def test_blanks(self):
-        for line in ("1  swap 0 0: p", " 1 swap 0 0: p", "1 swap  0 0: p", "1 swap 0  0: p", "1 swap 0 0 : p", "1 swap 0 0:p",
+        for line in ("1  swap 0 0: p", " 1 swap 0 0: p", "1 swap  0 0: p", "1 swap 0  0: p", "1 swap 0 0 : p",
+                     "1 swap 0 0:p",
                      "1 swap 0 0:  p", "1 swap 0 0: p ", "1 swap 0 0: p |q", "1 swap 0 0: p| q", "1 swap 0 0: p  | q",
-                     "1 swap 0 0: p(X0, X1)", "1 swap 0 0: a =b", "1 swap 0 0: ~ p", "1\tswap 0 0: p", "1 swap 0 0: p\n",
+                     "1 swap 0 0: p(X0, X1)", "1 swap 0 0: a =b", "1 swap 0 0: ~ p", "1\tswap 0 0: p",
+                     "1 swap 0 0: p\n",
                      "1 swap 00: p", "1swap 0 0: p", "1 swap 0 0: p(a )", "1 swap 0 0: p\t", "1 instance 0 : p",
-                     "1 instance 0  X0=a: p", "1 instance 0 X0 =a: p", "1 instance 0 X0= a: p", "1 instance 0 X0=f(a, b): p"):
+                     "1 instance 0  X0=a: p", "1 instance 0 X0 =a: p", "1 instance 0 X0= a: p",
+                     "1 instance 0 X0=f(a, b): p"):
             self.check_line(line)
 
     def test_rules(self):
-        for line in ("1 swaps 0 0: p", "1 Swap 0 0: p", "1 : p", "1: p", "1 0 0: p", "1 superposition 0 0: p", "1  0 0: p"):
+        for line in ("1 swaps 0 0: p", "1 Swap 0 0: p", "1 : p", "1: p", "1 0 0: p", "1 superposition 0 0: p",
+                     "1  0 0: p"):
             self.check_line(line)
 
     def test_the_number_of_premises_and_data(self):
         for line in ("1 input: p", "1 input 0 0: p", "1 instance: p", "1 instance X0=a: p", "1 instance 0 0: p",
-                     "1 instance 0 0 X0=a: p", "1 swap: p", "1 swap 0: p", "1 swap 0 0 0: p", "1 merge 0 0: p", "1 merge 0 0 1 2: p",
-                     "1 drop 0: p", "1 drop 0 0 0: p", "1 resolve 0 0 0: p", "1 resolve 0 0 0 0 0: p", "1 replace 0 0 0 0 0: p",
-                     "1 replace 0 0 0 0 -: p", "1 replace 0 0 0 0 0 - -: p", "1 replace 0 0 0 0 0 0 -: p", "1 factor 0 0: p",
+                     "1 instance 0 0 X0=a: p", "1 swap: p", "1 swap 0: p", "1 swap 0 0 0: p", "1 merge 0 0: p",
+                     "1 merge 0 0 1 2: p",
+                     "1 drop 0: p", "1 drop 0 0 0: p", "1 resolve 0 0 0: p", "1 resolve 0 0 0 0 0: p",
+                     "1 replace 0 0 0 0 0: p",
+                     "1 replace 0 0 0 0 -: p", "1 replace 0 0 0 0 0 - -: p", "1 replace 0 0 0 0 0 0 -: p",
+                     "1 factor 0 0: p",
                      "1 factor 0 0 0 0: p"):
             self.check_line(line)
 
     def test_positions(self):
-        for position in ("", "--", "-1", "1.", ".1", "1..2", "1.02", "01", "1,2", "(1)", "1.-", "+1", "1.2.", "x", "1 2"):
+        for position in ("", "--", "-1", "1.", ".1", "1..2", "1.02", "01", "1,2", "(1)", "1.-", "+1", "1.2.", "x",
+                         "1 2"):
             self.check_line(f"1 replace 0 0 0 0 0 {position}: p")
         for position in ("-", "1", "1.2", "10.20.30"):
             self.assertIsNone(error_of(read_steps, LINES[:1] + [f"1 replace 0 0 0 0 0 {position}: p"]))
 
     def test_pairs_of_an_instance(self):
-        for word in ("X0", "X0=", "=a", "0=a", "X=a", "Y0=a", "x0=a", "X00=a", "X01=a", "X-1=a", "X0=X", "X0=Y1", "X0=a=b", "X0==a",
+        for word in ("X0", "X0=", "=a", "0=a", "X=a", "Y0=a", "x0=a", "X00=a", "X01=a", "X-1=a", "X0=X", "X0=Y1",
+                     "X0=a=b", "X0==a",
                      "X0=f(a", "X0=f()", "X0=A", "X0=X01", "X0=~a", "X0=f(X0)a", "X0=(a)", "X0:a", "X+1=a"):
             self.check_line(f"1 instance 0 {word}: p")
             self.check_line(f"1 instance 0 X5=b {word}: p")
             self.check_line(f"1 instance 0 {word} X5=b: p")
 
     def test_clauses(self):
-        for text in ("", "p |", "| p", "p q", "p # q", "p.", "p | false", "False", "p(X)", "p(Y0)", "X0", "~X0", "a = ", "a == b",
+        for text in ("", "p |", "| p", "p q", "p # q", "p.", "p | false", "False", "p(X)", "p(Y0)", "X0", "~X0",
+                     "a = ", "a == b",
                      "p(X00)", "p: q", "p & q", "~a = b", "~~p", "p(f(a)", "p(a))", "true = a", "all X: p"):
             self.check_line(f"1 swap 0 0: {text}")
         for line in ("1 swap 0 0", "1 swap 0 0:", "1 swap 0 0 p", "", " ", "p", ":", ": p", "1 swap 0 0; p"):
@@ -194,7 +211,8 @@ class WrittenStructures(unittest.TestCase):
                          ["size 2", "c = 1", "p(0) = false", "p(1) = true"])
 
     def test_symbols_and_tuples_in_their_order(self):
-        structure = Structure(12, {"g": {(2, 0): 1, (10, 0): 11, (1, 11): 0, (1, 2): 3}, "f": {(11,): 10, (2,): 0}, "b": {(): 7},
+        structure = Structure(12, {"g": {(2, 0): 1, (10, 0): 11, (1, 11): 0, (1, 2): 3}, "f": {(11,): 10, (2,): 0},
+                                   "b": {(): 7},
                                    "aB": {(): 1}, "a_": {(): 2}, "a": {(): 3}},
                               {"q": {(): False}, "p": {(10,): True, (9,): False}, "a1": {(0, 0): True}})
         lines = ["size 12", "a = 3", "aB = 1", "a_ = 2", "b = 7", "f(2) = 0", "f(11) = 10", "g(1,2) = 3", "g(1,11) = 0",
@@ -210,7 +228,8 @@ class WrittenStructures(unittest.TestCase):
 
     def test_a_symbol_in_both_tables_and_with_two_numbers_of_arguments(self):
         structure = Structure(2, {"f": {(): 1, (1,): 0, (0, 1): 1, (0,): 1}}, {"f": {(): True, (0,): False}})
-        self.assertEqual(show_structure(structure), ["size 2", "f = 1", "f(0) = 1", "f(0,1) = 1", "f(1) = 0", "f = true",
+        self.assertEqual(show_structure(structure), ["size 2", "f = 1", "f(0) = 1", "f(0,1) = 1", "f(1) = 0",
+                                                     "f = true",
                                                      "f(0) = false"])
         self.assertEqual(read_structure(show_structure(structure)), structure)
 
@@ -232,7 +251,8 @@ class WrittenStructures(unittest.TestCase):
 class ReadStructures(unittest.TestCase):
     """Point 126: reading."""
 
-    lines = ["size 12", "c = 11", "f(0) = 3", "f(2) = 0", "f(11) = 11", "g(1,10) = 0", "g(2,0) = 5", "p = true", "q(0) = false",
+    lines = ["size 12", "c = 11", "f(0) = 3", "f(2) = 0", "f(11) = 11", "g(1,10) = 0", "g(2,0) = 5", "p = true",
+             "q(0) = false",
              "q(11,0) = true"]
 
     def check_lines(self, lines, number):
@@ -248,7 +268,8 @@ class ReadStructures(unittest.TestCase):
 
     def test_the_first_line(self):
         self.check_lines([], 1)
-        for line in ("", "size", "size ", "size 0", "size 01", "size -1", "size +1", "size  2", " size 2", "size 2 ", "size two",
+        for line in ("", "size", "size ", "size 0", "size 01", "size -1", "size +1", "size  2", " size 2", "size 2 ",
+                     "size two",
                      "Size 2", "size 2.", "size2", "c = 0", "size 2\n", "size \u0662", "sizes 2", "12", "size = 2"):
             self.check_lines([line], 1)
             self.check_lines([line] + self.lines[1:], 1)
@@ -280,18 +301,25 @@ class ReadStructures(unittest.TestCase):
         self.check_lines(["size 2", "b = 1", "b = true"], None)
 
     def test_elements_beyond_the_size(self):
-        for line, number in [("f(1) = 2", 2), ("f(2) = 1", 2), ("f(1,2) = 0", 2), ("c = 2", 2), ("p(2) = true", 2), ("f(1) = 1", None),
+        for line, number in [("f(1) = 2", 2), ("f(2) = 1", 2), ("f(1,2) = 0", 2), ("c = 2", 2), ("p(2) = true", 2),
+                             ("f(1) = 1", None),
                              ("p(1) = false", None), ("f(1,0) = 10", 2), ("c = 1", None)]:
             self.check_lines(["size 2", line], number)
             self.check_lines(["size 2", "a = 0", line, "wrong"], 4 if number is None else 3)
 
     def test_spoiled_lines(self):
-        for line in ("f(0) = 01", "f(00) = 1", "f(01) = 1", "f(0)  = 1", "f(0) =1", "f(0)= 1", "f(0) = 1 ", " f(0) = 1", "f (0) = 1",
-                     "f( 0) = 1", "f(0, 1) = 1", "f(0 ) = 1", "f() = 1", "f(,) = 1", "f(0,) = 1", "f(,0) = 1", "f(0 = 1", "f0) = 1",
-                     "f(0)) = 1", "f((0)) = 1", "f(0)(1) = 1", "f(0) = ", "f(0) =", "f(0)", "= 1", " = 1", "(0) = 1", "f(0) == 1",
-                     "f(0) != 1", "f(0) = -1", "f(-1) = 0", "f(+1) = 0", "f(0) = +1", "f(0) = True", "f(0) = yes", "f(0) = truefalse",
-                     "f(0) = FALSE", "f(0) = 1 = 1", "f(x) = 1", "f(true) = 1", "F(0) = 1", "1 = 1", "_f = 1", "f-g = 1", "f' = 1",
-                     "f(0) = 1\n", "f(0) = 1.0", "", "f(0) = 1 # one", "f(0):1", "f(0) = \u0661", "f\u00e9 = 1", "X0 = 1",
+        for line in ("f(0) = 01", "f(00) = 1", "f(01) = 1", "f(0)  = 1", "f(0) =1", "f(0)= 1", "f(0) = 1 ",
+                     " f(0) = 1", "f (0) = 1",
+                     "f( 0) = 1", "f(0, 1) = 1", "f(0 ) = 1", "f() = 1", "f(,) = 1", "f(0,) = 1", "f(,0) = 1",
+                     "f(0 = 1", "f0) = 1",
+                     "f(0)) = 1", "f((0)) = 1", "f(0)(1) = 1", "f(0) = ", "f(0) =", "f(0)", "= 1", " = 1", "(0) = 1",
+                     "f(0) == 1",
+                     "f(0) != 1", "f(0) = -1", "f(-1) = 0", "f(+1) = 0", "f(0) = +1", "f(0) = True", "f(0) = yes",
+                     "f(0) = truefalse",
+                     "f(0) = FALSE", "f(0) = 1 = 1", "f(x) = 1", "f(true) = 1", "F(0) = 1", "1 = 1", "_f = 1",
+                     "f-g = 1", "f' = 1",
+                     "f(0) = 1\n", "f(0) = 1.0", "", "f(0) = 1 # one", "f(0):1", "f(0) = \u0661", "f\u00e9 = 1",
+                     "X0 = 1",
                      "a23456789012345678901 = 1", "f[0] = 1", "f(0;1) = 1", "f.g = 1", "f(0) = none", "f(0) = 0x1"):
             self.check_lines(["size 2", line], 2)
             self.check_lines(["size 2", "a = 0", line, "g = 1"], 3)

@@ -86,7 +86,8 @@ def instances_by_hand(rows, terms):
         names = clause_variables(clause)
         for row in itertools.product(terms, repeat=len(names)):
             bound = dict(zip(names, row))
-            found.append((index, tuple((sign, apply(bound, left), apply(bound, right)) for sign, left, right in clause)))
+            instance = tuple((sign, apply(bound, left), apply(bound, right)) for sign, left, right in clause)
+            found.append((index, instance))
     return found
 
 
@@ -261,7 +262,8 @@ class Rules(unittest.TestCase):
         self.assertEqual(self.rules("f(a) = a | b != b", "b != b | f(a) = a", weight=2, selection=1), [])
         # The clause with a selected literal comes first among equal instances, and produces nothing.
         ordering = Ordering({}, ["a", "q", "p"])
-        self.assertEqual(self.rules("p(a) | ~q(X0)", "q(a)", weight=2, selection=2, ordering=ordering), ["q(a) -> true"])
+        self.assertEqual(self.rules("p(a) | ~q(X0)", "q(a)", weight=2, selection=2, ordering=ordering),
+                         ["q(a) -> true"])
         self.assertEqual(self.rules("p(a) | ~q(X0)", "p(a) | ~q(a)", "q(a)", weight=2, selection=2, ordering=ordering),
                          ["q(a) -> true", "p(a) -> true"])
 
@@ -332,7 +334,8 @@ class NormalForms(unittest.TestCase):
             self.assertEqual(model.normal_form(term), normal_by_hand(rules, term))
 
     def test_true_clauses(self):
-        for text, answer in [("f(b) = a", True), ("f(b) != a", False), ("b = a", False), ("b != a", True), ("p(a)", True),
+        for text, answer in [("f(b) = a", True), ("f(b) != a", False), ("b = a", False), ("b != a", True),
+                             ("p(a)", True),
                              ("~p(a)", False), ("p(b)", False), ("~p(b)", True), ("q(h(a))", False), ("~q(h(a))", True),
                              ("p(f(h(b)))", True), ("f(h(a)) = f(a)", True), ("false", False), ("b = a | p(b)", False),
                              ("b = a | ~p(b)", True), ("b = b | b = a", True), ("true", True), ("~true", False),

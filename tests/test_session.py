@@ -287,7 +287,8 @@ class Attempts(unittest.TestCase):
 
     def test_the_prover_that_runs(self):
         for settings in ({}, {"selection": 0}, {"selection": 2}, {"by_weight": 0}, {"by_age": 7, "by_weight": 1},
-                         {"weights": {"i": 3, "m": 2}}, {"precedence": ["m", "e", "i"]}, {"precedence": ("i", "m", "e")}):
+                         {"weights": {"i": 3, "m": 2}}, {"precedence": ["m", "e", "i"]},
+                         {"precedence": ("i", "m", "e")}):
             session = session_of(GROUP, "goal g: all X: m(X, i(X)) = e.", **settings)
             prover = Prover(Ordering(settings.get("weights", {}), list(settings.get("precedence", []))),
                             selection=settings.get("selection", 1), by_weight=settings.get("by_weight", 4),
@@ -317,7 +318,8 @@ class Attempts(unittest.TestCase):
                                ({"weights": {"b": 2}}, ["b = c", "f(c) = a"])]:
             found = session_of(text, **settings).attempt()
             self.assertEqual([show_clause(clause) for clause in found[1]], rows)
-        text = "axiom one: p(f(f(f(a)))). axiom two: ~p(f(f(f(a)))). axiom three: q(a). axiom four: r(a). axiom five: s(a)."
+        text = ("axiom one: p(f(f(f(a)))). axiom two: ~p(f(f(f(a)))). axiom three: q(a). axiom four: r(a). "
+                "axiom five: s(a).")
         needed = []
         for settings in ({}, {"by_weight": 0}, {"by_age": 0}, {"by_weight": 1}):
             session = session_of(text, **settings)
@@ -430,14 +432,16 @@ class Structures(unittest.TestCase):
 
     def test_the_limit(self):
         session = session_of("axiom one: all X: f(X) != X.")
-        self.assertEqual(session.structure(limit=0), find_least([clause for _, clause in session.clauses()], 3, limit=0))
+        self.assertEqual(session.structure(limit=0), find_least([clause for _, clause in session.clauses()], 3,
+                                                                limit=0))
         self.assertEqual(session.structure(greatest=1, limit=0)[0], "none")
 
     def test_errors(self):
         session = session_of("axiom one: p(a).")
         self.assertRaises(InvalidStructure, session.structure, greatest=0)
         different = " & ".join(f"c{first} != c{second}" for first in range(4) for second in range(first))
-        session = session_of(f"axiom one: {different}. axiom two: all A, B, C, D, E, F, G, H: p(A, B, C, D, E, F, G, H).")
+        session = session_of(f"axiom one: {different}.",
+                             "axiom two: all A, B, C, D, E, F, G, H: p(A, B, C, D, E, F, G, H).")
         self.assertEqual(session.structure()[0], "none")
         self.assertRaises(TooLarge, session.structure, greatest=4)
 

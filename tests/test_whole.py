@@ -18,9 +18,12 @@ from elenchus.unify import apply
 from elenchus.weights import Ordering
 
 FORMULAS = [
-    "all X: p(X) -> q(X)", "some X: p(X)", "all X: ~q(X)", "all X: p(f(X)) <-> ~p(X)", "p(a) | q(b)", "all X: f(f(X)) = X",
-    "some X: f(X) = X", "all X, Y: f(X) = f(Y) -> X = Y", "a != b", "all X: X = a | X = b", "f(a) = b", "f(b) = b", "~p(a)",
-    "all X: some Y: r(X, Y)", "some X: all Y: r(X, Y)", "all X, Y: r(X, Y) -> ~r(Y, X)", "all X: r(X, f(X))", "some X: ~q(f(X))",
+    "all X: p(X) -> q(X)", "some X: p(X)", "all X: ~q(X)", "all X: p(f(X)) <-> ~p(X)", "p(a) | q(b)",
+    "all X: f(f(X)) = X",
+    "some X: f(X) = X", "all X, Y: f(X) = f(Y) -> X = Y", "a != b", "all X: X = a | X = b", "f(a) = b", "f(b) = b",
+    "~p(a)",
+    "all X: some Y: r(X, Y)", "some X: all Y: r(X, Y)", "all X, Y: r(X, Y) -> ~r(Y, X)", "all X: r(X, f(X))",
+    "some X: ~q(f(X))",
     "all X, Y, Z: r(X, Y) & r(Y, Z) -> r(X, Z)", "p(a) <-> (q(a) <-> p(b))", "all X: q(X) | X = a", "all X: f(X) != X",
     "(some X: q(X)) -> (all X: p(X))", "all X: q(f(X)) -> q(X)", "p(b) -> f(a) = f(b)", "false", "some X, Y: X != Y"]
 
@@ -39,7 +42,8 @@ def random_session(choice, texts):
 def random_structure(choice, size):
     """Return a structure of the size for the symbols of the formulas."""
     row = range(size)
-    return Structure(size, {"a": {(): 0}, "b": {(): choice.randrange(size)}, "f": {(k,): choice.choice(row) for k in row}}, {
+    return Structure(size, {"a": {(): 0}, "b": {(): choice.randrange(size)},
+                            "f": {(k,): choice.choice(row) for k in row}}, {
         "p": {(k,): choice.random() < 0.5 for k in row}, "q": {(k,): choice.random() < 0.5 for k in row},
         "r": {(j, k): choice.random() < 0.5 for j in row for k in row}})
 
@@ -88,7 +92,8 @@ class TwoFacts(unittest.TestCase):
 
     def test_an_accepted_derivation_of_the_empty_clause(self):
         choice = random.Random(4)
-        inputs = [read_clause(text) for text in ("p(a) | q", "~p(a)", "~q | a != a", "b = a", "~p(b)", "p(b) | p(a)", "~q")]
+        inputs = [read_clause(text) for text in ("p(a) | q", "~p(a)", "~q | a != a", "b = a", "~p(b)", "p(b) | p(a)",
+                                                 "~q")]
         ends = 0
         for _ in range(60):
             # Inputs, and then steps as they come.
@@ -96,8 +101,10 @@ class TwoFacts(unittest.TestCase):
             steps = [("input", (), (number,), clause) for number, clause in enumerate(some)]
             for _ in range(400):
                 rule = choice.choice(["resolve", "replace", "drop", "merge"])
-                premises = tuple(choice.randrange(len(steps)) for _ in range(2 if rule in ("resolve", "replace") else 1))
-                data = {"drop": (choice.randrange(2),), "merge": (0, 1), "resolve": (choice.randrange(2), choice.randrange(2)),
+                premises = tuple(choice.randrange(len(steps))
+                                 for _ in range(2 if rule in ("resolve", "replace") else 1))
+                data = {"drop": (choice.randrange(2),), "merge": (0, 1),
+                        "resolve": (choice.randrange(2), choice.randrange(2)),
                         "replace": (0, choice.randrange(2), 0, choice.choice([(), (1,)]))}[rule]
                 try:
                     conclusion = conclude(some, steps, rule, premises, data)
@@ -120,7 +127,8 @@ class TwoFacts(unittest.TestCase):
         for _ in range(80):
             session = random_session(choice, choice.sample(FORMULAS, choice.randint(1, 4)))
             answer = session.attempt(steps=25)
-            if answer[0] != "saturated" or (False, TRUE, TRUE) in [literal for clause in answer[1] for literal in clause]:
+            if answer[0] != "saturated" or (False, TRUE, TRUE) in [literal for clause in answer[1]
+                                                                   for literal in clause]:
                 continue
             ordering, selection = session._ordering, session._selection
             self.assertIsNone(open_inference(ordering, selection, answer[1]))
@@ -153,7 +161,8 @@ class TwoFacts(unittest.TestCase):
 
 def symbols_of(rows):
     """Return the symbols of the clauses, that of TRUE included."""
-    return {symbol for clause in rows for literal in clause for side in literal[1:] for symbol, _ in symbols(side)} | {"true"}
+    sides = [side for clause in rows for literal in clause for side in literal[1:]]
+    return {symbol for side in sides for symbol, _ in symbols(side)} | {"true"}
 
 
 class TheSameResults(unittest.TestCase):
