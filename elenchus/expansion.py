@@ -152,10 +152,10 @@ class Expansion:
         if part[0] == "clean":
             return self._cleaned(step)
         if part[0] == "rewrite":
-            _, _, number, rule_side, index, side, position, bound = part
+            number, rule_side, index, side, position, bound = part[2:]
             rule = self._swapped(self._instance(self._ends[number], bound), 0, rule_side)
             return self._add("replace", (rule, step), (0, index, side, position))
-        _, _, number, index, bound = part
+        number, index, bound = part[2:]
         cutter = self._instance(self._ends[number], bound)
         exchanged = self._clause(cutter)[0][1:] != self._clause(step)[index][1:]
         cutter = self._swapped(cutter, 0, 1 if exchanged else 0)
