@@ -62,20 +62,26 @@ class Universe:
             return []
         # Each row comes with what is left when the rest is as light as can be, the last term included.
         for place in range(arity):
-            longer = []
-            for row, left, has_last in rows:
-                if has_last or place < arity - 1:
-                    longer.extend(self._longer_rows(row, left, has_last))
-                if has_last:
-                    spare = left - self._weights[last] + lightest
-                else:
-                    spare = left
-                if spare >= 0:
-                    longer.append((row + (last,), spare, True))
-            rows = longer
+            rows = self._lengthened_rows(rows, place == arity - 1)
             if len(rows) > MOST_TERMS:
                 raise TooLarge("terms")
         return [entry[0] for entry in rows]
+
+    def _lengthened_rows(self, rows, at_end):
+        """Return the rows with one more ground term behind each; at the end, all that have the last one."""
+        last = self._ground_terms[-1]
+        lightest = self._weights[self._ground_terms[0]]
+        longer = []
+        for row, left, has_last in rows:
+            if has_last or not at_end:
+                longer.extend(self._longer_rows(row, left, has_last))
+            if has_last:
+                spare = left - self._weights[last] + lightest
+            else:
+                spare = left
+            if spare >= 0:
+                longer.append((row + (last,), spare, True))
+        return longer
 
     def _longer_rows(self, row, left, has_last):
         """Return the row with each ground term behind it that is light enough, except for the last one."""

@@ -38,6 +38,8 @@ __init__ __eq__ __repr__ __str__ __len__ __enter__ __exit__ __call__ __iter__ __
 __ge__ __ne__ __contains__ __getitem__ __setitem__ __bool__
 """.split()
 
+CHANGING_METHODS = "append extend insert pop remove clear update setdefault reverse sort add discard".split()
+
 UNUSED_NAMES = """
 register mro elements open input law version_info with_traceback add_note attrgetter breakpoint
 builtins compile copyright credits delattr dir eval exec exit gc globals help id importlib license
@@ -275,6 +277,35 @@ class Code(unittest.TestCase):
                     self.assertNotIn(part.attr, methods + BARRED_ATTRIBUTES + UNUSED_NAMES[:9], name)
 
 
+class Loops(unittest.TestCase):
+    """Rule L23: what a loop iterates over is not changed in it, by whatever name of the same function."""
+
+    def changes(self, text):
+        """Return the lines of a function at which a loop changes what it iterates over."""
+        return changes_in_loops(ast.parse(text).body[0])
+
+    def test_no_loop_changes_what_it_iterates_over(self):
+        for name, node in nodes(ast.FunctionDef):
+            self.assertEqual(changes_in_loops(node), [], (name, node.name))
+
+    def test_changes_by_the_name(self):
+        self.assertEqual(self.changes("def f(a):\n for x in a:\n  a.append(x)"), [3])
+        self.assertEqual(self.changes("def f(a):\n for k, x in enumerate(a.b):\n  a.b[k] = x\n  del a.b[k]"), [3, 4])
+        self.assertEqual(self.changes("def f(a):\n for k, x in a.items():\n  a[k] += 1"), [3])
+        self.assertEqual(self.changes("def f(a):\n return [a.pop() for x in a]"), [2])
+
+    def test_changes_by_another_name(self):
+        self.assertEqual(self.changes("def f(a):\n b = a\n for x in a:\n  b.append(x)"), [4])
+        self.assertEqual(self.changes("def f(a):\n for y in a:\n  b = []\n  for x in a:\n   b.extend(x)\n  a = b"), [5])
+        self.assertEqual(self.changes("def f(a, c):\n b = a if c else []\n for x in c or b:\n  a.append(x)"), [4])
+        self.assertEqual(self.changes("def f(a):\n b, c = 1, a.d\n for x in c:\n  a.d.append(x)"), [4])
+
+    def test_changes_of_something_else(self):
+        self.assertEqual(self.changes("def f(a):\n b = []\n for x in a:\n  b.append(x)\n return b"), [])
+        self.assertEqual(self.changes("def f(a):\n b = a\n for x in list(a):\n  b.append(x)"), [])
+        self.assertEqual(self.changes("def f(a):\n for x in a:\n  x.append(1)\n  a = [x]\n  k = a.get(x)"), [])
+
+
 class Interface(unittest.TestCase):
     """Each function, class and method is defined where the document lists it."""
 
@@ -321,6 +352,68 @@ def bound_names(node):
 def defined(module):
     """Return the names that a module defines itself."""
     return [name for node in TREES[module].body if not isinstance(node, ast.ImportFrom) for name in bound_names(node)]
+
+
+def names_of(value):
+    """Return what a value may be another name of: names, attributes and items, written out."""
+    if isinstance(value, (ast.Name, ast.Attribute, ast.Subscript)):
+        return [ast.unparse(value)]
+    inner = []
+    if isinstance(value, ast.IfExp):
+        inner = [value.body, value.orelse]
+    elif isinstance(value, ast.BoolOp):
+        inner = value.values
+    elif isinstance(value, ast.Call) and ast.unparse(value.func) in ("enumerate", "zip", "reversed", "iter"):
+        inner = value.args
+    elif isinstance(value, ast.Call) and ast.unparse(value.func).endswith((".items", ".keys", ".values")):
+        inner = [value.func.value]
+    return [name for part in inner for name in names_of(part)]
+
+
+def targets_of(node):
+    """Return the pairs of a target and the value that a statement gives it; the value may be None."""
+    if isinstance(node, ast.Assign):
+        pairs = [(target, node.value) for target in node.targets]
+        for target, value in list(pairs):
+            if isinstance(target, ast.Tuple) and isinstance(value, ast.Tuple):
+                pairs.extend(zip(target.elts, value.elts))
+        return pairs
+    if isinstance(node, ast.Delete):
+        return [(target, None) for target in node.targets]
+    return [(node.target, None)] if isinstance(node, ast.AugAssign) else []
+
+
+def same_names(function):
+    """Return a dict from names of a function to a name that all names of the same thing have in common."""
+    common = {}
+    for node in ast.walk(function):
+        for target, value in targets_of(node):
+            for name in names_of(value):
+                first, second = common.get(ast.unparse(target), ast.unparse(target)), common.get(name, name)
+                common = {**{word: first if common[word] == second else common[word] for word in common},
+                          ast.unparse(target): first, name: first}
+    return common
+
+
+def changed_names(node):
+    """Return the names of what a call or a statement changes."""
+    if isinstance(node, ast.Call) and isinstance(node.func, ast.Attribute) and node.func.attr in CHANGING_METHODS:
+        return names_of(node.func.value)
+    items = [target.value for target, _ in targets_of(node) if isinstance(target, ast.Subscript)]
+    return [name for item in items for name in names_of(item)]
+
+
+def changes_in_loops(function):
+    """Return the lines of a function at which a loop or comprehension changes what it iterates over."""
+    common = same_names(function)
+    lines = []
+    for loop in ast.walk(function):
+        generators = [loop] if isinstance(loop, ast.For) else getattr(loop, "generators", [])
+        walked = [common.get(name, name) for part in generators for name in names_of(part.iter)]
+        body = loop.body if isinstance(loop, ast.For) else [loop]
+        for node in [node for statement in body for node in ast.walk(statement)]:
+            lines += [node.lineno for name in changed_names(node) if common.get(name, name) in walked]
+    return sorted(set(lines))
 
 
 def without_docstrings(tree):
