@@ -1,5 +1,16 @@
 """The errors of the program: each kind of failure has a class of its own."""
 
+from elenchus.integers import decimal, is_integer
+
+
+def worded(value):
+    """Return the words of a message for a value: numbers may be of any length, also in a tuple."""
+    if is_integer(value):
+        return decimal(value)
+    if isinstance(value, tuple):
+        return "(" + ", ".join([worded(part) for part in value]) + ")"
+    return f"{value}"
+
 
 class ElenchusError(ValueError):
     """The base class of all errors below."""
@@ -9,7 +20,7 @@ class TextError(ElenchusError):
     """A text cannot be read; lines and columns count from 1."""
 
     def __init__(self, line, column, reason):
-        super().__init__(f"line {line}, column {column}: {reason}")
+        super().__init__(f"line {worded(line)}, column {worded(column)}: {reason}")
         self.line = line
         self.column = column
         self.reason = reason
@@ -19,7 +30,7 @@ class UnknownSymbol(ElenchusError):
     """A symbol is asked for that is not there."""
 
     def __init__(self, symbol):
-        super().__init__(f"unknown symbol {symbol}")
+        super().__init__(f"unknown symbol {worded(symbol)}")
         self.symbol = symbol
 
 
@@ -35,7 +46,7 @@ class ArityError(ElenchusError):
     """A symbol is used with two numbers of arguments."""
 
     def __init__(self, symbol, expected, found):
-        super().__init__(f"{symbol} has {expected} arguments, not {found}")
+        super().__init__(f"{symbol} has {worded(expected)} arguments, not {worded(found)}")
         self.symbol = symbol
         self.expected = expected
         self.found = found
@@ -53,7 +64,7 @@ class InvalidStep(ElenchusError):
     """A step of a derivation is not correct."""
 
     def __init__(self, place, reason):
-        super().__init__(f"step {place}: {reason}")
+        super().__init__(f"step {worded(place)}: {reason}")
         self.place = place
         self.reason = reason
 
@@ -62,7 +73,7 @@ class InvalidPosition(ElenchusError):
     """A term does not have a position."""
 
     def __init__(self, position):
-        super().__init__(f"no position {position}")
+        super().__init__(f"no position {worded(position)}")
         self.position = position
 
 
@@ -70,7 +81,7 @@ class MissingVariable(ElenchusError):
     """A variable has no element in an assignment."""
 
     def __init__(self, variable):
-        super().__init__(f"no element for variable {variable}")
+        super().__init__(f"no element for variable {worded(variable)}")
         self.variable = variable
 
 
@@ -86,7 +97,7 @@ class UnknownClause(ElenchusError):
     """No clause has this number."""
 
     def __init__(self, number):
-        super().__init__(f"no clause {number}")
+        super().__init__(f"no clause {worded(number)}")
         self.number = number
 
 
@@ -94,7 +105,7 @@ class UnknownRecord(ElenchusError):
     """No record has this number."""
 
     def __init__(self, number):
-        super().__init__(f"no record {number}")
+        super().__init__(f"no record {worded(number)}")
         self.number = number
 
 
@@ -102,7 +113,7 @@ class UnknownEntry(ElenchusError):
     """No entry has this number as its value."""
 
     def __init__(self, number):
-        super().__init__(f"no entry {number}")
+        super().__init__(f"no entry {worded(number)}")
         self.number = number
 
 
@@ -110,7 +121,7 @@ class DuplicateNumber(ElenchusError):
     """A number is already there."""
 
     def __init__(self, number):
-        super().__init__(f"{number} is already there")
+        super().__init__(f"{worded(number)} is already there")
         self.number = number
 
 
@@ -150,7 +161,7 @@ class InvalidSelection(ElenchusError):
     """A selection is none of the known ones."""
 
     def __init__(self, selection):
-        super().__init__(f"invalid selection {selection}")
+        super().__init__(f"invalid selection {worded(selection)}")
         self.selection = selection
 
 

@@ -1,6 +1,7 @@
 """The written form of derivations, structures and answers."""
 
 from elenchus.errors import TextError
+from elenchus.integers import decimal, from_decimal
 from elenchus.reader import read_clause, read_term
 from elenchus.show import show_clause, show_term
 from elenchus.steps import INDEXED, RULES
@@ -10,7 +11,6 @@ DIGITS = "0123456789"
 SMALL_LETTERS = "abcdefghijklmnopqrstuvwxyz"
 SYMBOL_CHARACTERS = "abcdefghijklmnopqrstuvwxyzABCDEFGHIJKLMNOPQRSTUVWXYZ0123456789_"
 LONGEST_SYMBOL = 20
-MOST_DIGITS = 4000
 
 TRUTH = {"true": True, "false": False}
 
@@ -26,16 +26,16 @@ def show_step(number, step):
     if rule == "instance":
         shown = [f"{show_term(variable)}={show_term(term)}" for variable, term in data]
     elif rule == "replace":
-        shown = [str(part) for part in data[:3]] + [show_position(data[3])]
+        shown = [decimal(part) for part in data[:3]] + [show_position(data[3])]
     else:
-        shown = [str(part) for part in data]
-    front = " ".join([str(number), rule] + [str(premise) for premise in premises] + shown)
+        shown = [decimal(part) for part in data]
+    front = " ".join([decimal(number), rule] + [decimal(premise) for premise in premises] + shown)
     return f"{front}: {show_clause(conclusion)}"
 
 
 def show_position(position):
     """Return the written form of a position."""
-    return ".".join([str(index) for index in position]) if position else "-"
+    return ".".join([decimal(index) for index in position]) if position else "-"
 
 
 def read_steps(lines):
@@ -105,14 +105,14 @@ def read_numbers(words):
 
 def read_number(word):
     """Return the number that the word is, or None; zeros in front are let through."""
-    if not word or len(word) > MOST_DIGITS or [letter for letter in word if letter not in DIGITS]:
+    if not word or [letter for letter in word if letter not in DIGITS]:
         return None
-    return int(word)
+    return from_decimal(word)
 
 
 def show_structure(structure):
     """Return the list of the lines of a structure."""
-    lines = [f"size {structure.size}"]
+    lines = [f"size {decimal(structure.size)}"]
     for tables in (structure.functions(), structure.predicates()):
         for symbol in sorted(tables):
             for row in sorted(tables[symbol]):
@@ -122,11 +122,11 @@ def show_structure(structure):
 
 def show_entry(symbol, row, value):
     """Return the line of an entry of a table."""
-    inner = ",".join([str(element) for element in row])
+    inner = ",".join([decimal(element) for element in row])
     head = f"{symbol}({inner})" if row else symbol
     if isinstance(value, bool):
         return f"{head} = true" if value else f"{head} = false"
-    return f"{head} = {value}"
+    return f"{head} = {decimal(value)}"
 
 
 def read_structure(lines):
@@ -151,7 +151,7 @@ def read_structure(lines):
 def read_size(line):
     """Return the size that the first line says, or None."""
     size = read_number(line[5:])
-    return size if size is not None and size > 0 and line == f"size {size}" else None
+    return size if size is not None and size > 0 and line == f"size {decimal(size)}" else None
 
 
 def read_entry(line, size):

@@ -1,5 +1,6 @@
 """The written form of terms, literals, clauses and formulas."""
 
+from elenchus.integers import decimal
 from elenchus.terms import TRUE, is_variable
 
 SIGNS = {"and": "&", "or": "|", "implies": "->", "iff": "<->"}
@@ -10,7 +11,7 @@ def show_term(term):
     if isinstance(term, str):
         return term
     if is_variable(term):
-        return f"X{term}"
+        return f"X{decimal(term)}"
     if len(term) == 1:
         return term[0]
     inner = ",".join([show_term(argument) for argument in term[1:]])

@@ -3,10 +3,20 @@
 import unittest
 
 from elenchus import errors
-from elenchus.errors import ElenchusError, InvalidPosition, TextError, TooLarge
+from elenchus.errors import (ArityError, ElenchusError, InvalidPosition, InvalidSelection, MissingVariable, TextError,
+                             TooLarge, UnknownClause, UnknownEntry, UnknownRecord, UnknownSymbol)
+from elenchus.expansion import expand, supporting
 from elenchus.formulas import Signature
-from elenchus.terms import replace_at
+from elenchus.ground import Grounding
+from elenchus.loop import Prover
+from elenchus.passive import Passive
+from elenchus.selection import selected
+from elenchus.structures import Structure, clause_holds
+from elenchus.subsumption import ClauseSet
+from elenchus.terms import replace_at, subterm_at
+from elenchus.tree import TermTree
 from elenchus.unify import apply, compose, unify_all
+from elenchus.weights import Ordering
 
 ATTRIBUTES = {
     "TextError": ("line", "column", "reason"),
@@ -77,6 +87,68 @@ class ErrorClasses(unittest.TestCase):
             if attributes:
                 with self.subTest(name=name), self.assertRaises(TypeError):
                     getattr(errors, name)()
+
+
+class LongNumbers(unittest.TestCase):
+    """Point 4: an error is raised as itself, however many digits its number has."""
+
+    number = 12 * 10 ** 4300
+    digits = "12" + "0" * 4300
+
+    def check(self, expected, call, *arguments):
+        """Make sure that the call raises this error, with the digits in its message."""
+        with self.assertRaises(expected) as caught:
+            call(*arguments)
+        self.assertTrue(self.digits in str(caught.exception))
+        return caught.exception
+
+    def test_classes_whose_attribute_is_a_number(self):
+        for name in ("UnknownSymbol", "MissingVariable", "UnknownClause", "UnknownRecord", "UnknownEntry",
+                     "DuplicateNumber", "InvalidSelection", "InvalidPosition"):
+            with self.subTest(name=name):
+                error = getattr(errors, name)(self.number)
+                self.assertTrue(self.digits in str(error))
+                self.assertTrue(getattr(error, ATTRIBUTES[name][0]) == self.number)
+                self.assertTrue("-" + self.digits in str(getattr(errors, name)(-self.number)))
+        self.assertTrue(self.digits in str(errors.InvalidStep(self.number, "wrong rule")))
+        for error in (TextError(self.number, self.number, "invalid step"), ArityError("f", self.number, self.number)):
+            self.assertEqual(str(error).count(self.digits), 2)
+
+    def test_short_numbers_look_as_ever(self):
+        self.assertEqual(str(UnknownClause(12)), "no clause 12")
+        self.assertEqual(str(UnknownRecord(-1)), "no record -1")
+        self.assertEqual(str(MissingVariable("X")), "no element for variable X")
+        self.assertEqual(str(ArityError("f", 1, 2)), "f has 1 arguments, not 2")
+        self.assertEqual(str(InvalidPosition((2, 1))), "no position (2, 1)")
+
+    def test_positions(self):
+        error = self.check(InvalidPosition, subterm_at, ("f", 0), (1, self.number))
+        self.assertTrue(error.position == (1, self.number))
+        self.check(InvalidPosition, replace_at, ("f", 0), (self.number,), ("a",))
+
+    def test_variables(self):
+        structure = Structure(2, {}, {})
+        error = self.check(MissingVariable, structure.value, self.number, {})
+        self.assertTrue(error.variable == self.number)
+        self.check(MissingVariable, structure.literal_holds, (True, self.number, 0), {0: 1})
+        self.assertTrue(clause_holds(structure, ((True, self.number, self.number),)))
+
+    def test_numbers_of_clauses_records_and_entries(self):
+        prover = Prover(Ordering({}, []))
+        self.check(UnknownRecord, expand, [], [], self.number)
+        self.check(UnknownRecord, supporting, [], -self.number)
+        self.check(UnknownClause, prover.record, self.number)
+        self.check(UnknownClause, ClauseSet().clause, self.number)
+        self.check(UnknownEntry, TermTree().discard, 0, self.number)
+
+    def test_other_numbers(self):
+        queue = Passive()
+        queue.add(self.number, 1)
+        error = self.check(errors.DuplicateNumber, queue.add, self.number, 2)
+        self.assertTrue(error.number == self.number)
+        self.assertEqual(len(queue), 1)
+        self.check(InvalidSelection, selected, Ordering({}, []), (), self.number)
+        self.check(UnknownSymbol, Grounding([], 2).meaning, self.number)
 
 
 class NothingChanges(unittest.TestCase):

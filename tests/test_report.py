@@ -15,6 +15,13 @@ from elenchus.structures import Structure
 TRUE = ("true",)
 A = ("a",)
 
+# Numbers with more digits than Python itself writes and reads, or with about as many.
+LONG_NUMBERS = [10 ** 3999, 10 ** 4000, 10 ** 4100, 10 ** 4299, 10 ** 4300 - 1, 10 ** 4300, 10 ** 5000,
+                12 * 10 ** 9000 + 345]
+LONG = "1" + "0" * 4300
+SPOILED_NUMBERS = ["0" + LONG, "-" + LONG, "+" + LONG, LONG + "x", "1_" + LONG, LONG + ".0", LONG + "\u0661",
+                   "x" + LONG, LONG[:2000] + "e" + LONG, "0" * 4301]
+
 
 def error_of(call, lines):
     """Return the line, the column and the reason of the error, or None."""
@@ -57,6 +64,15 @@ class WrittenSteps(unittest.TestCase):
         self.assertEqual(read_steps(show_steps(steps)), steps)
         self.assertTrue(check(inputs, read_steps(show_steps(steps))))
         self.assertGreater(len(steps), 15)
+
+    def test_numbers_of_many_digits(self):
+        n = 10 ** 4300
+        steps = [("input", (), (n,), ()), ("instance", (n,), ((n, 0), (0, ("f", n))), ()), ("swap", (n,), (n,), ()),
+                 ("merge", (n,), (0, n), ()), ("resolve", (n, 2), (n, 3), ()),
+                 ("replace", (n, 1), (0, n, 1, (n, 2)), ()), ("replace", (1, n), (n, 1, n, ()), ((True, n, A),))]
+        lines = ["0 input N: false", "1 instance N XN=X0 X0=f(XN): false", "2 swap N N: false", "3 merge N 0 N: false",
+                 "4 resolve N 2 N 3: false", "5 replace N 1 0 N 1 N.2: false", "6 replace 1 N N 1 N -: XN = a"]
+        self.assertTrue(show_steps(steps) == [line.replace("N", LONG) for line in lines])
 
     def test_random_steps(self):
         choice = random.Random(124)
@@ -128,7 +144,25 @@ class ReadSteps(unittest.TestCase):
             self.check_line(line)
         self.check_line("1 input 0: p", 0)
         self.check_line("00 input 0: p", 0)
-        self.check_line("1 swap 0 " + "9" * 5000 + ": p")
+
+    def test_numbers_of_many_digits(self):
+        for number in LONG_NUMBERS:
+            steps = [("input", (), (number,), ()), ("merge", (number,), (0, number), ()),
+                     ("instance", (number,), ((3, A),), ()), ("resolve", (0, number), (number, 1), ()),
+                     ("replace", (number, 1), (0, number, 1, (number, 2)), ()), ("factor", (1,), (number, number), ())]
+            self.assertTrue(read_steps(show_steps(steps)) == steps)
+        self.assertTrue(read_steps(["0 swap 7 " + "9" * 5000 + ": p"])
+                        == [("swap", (7,), (10 ** 5000 - 1,), read_clause("p"))])
+
+    def test_spoiled_numbers_of_many_digits(self):
+        for word in SPOILED_NUMBERS:
+            self.check_line("1 swap 0 " + word + ": p")
+            self.check_line("1 swap " + word + " 0: p")
+            self.check_line("1 replace 0 0 0 0 0 1." + word.replace(".0", ".-") + ": p")
+        self.check_line("1" + LONG + " swap 0 0: p")
+        self.check_line("0" * 4300 + "1 swap 0 0: p")
+        # The reader does not read a variable of more than 20 characters in a clause.
+        self.check_line("1 swap 0 0: X" + LONG + " = a")
 
     def test_blanks(self):
         for line in ("1  swap 0 0: p", " 1 swap 0 0: p", "1 swap  0 0: p", "1 swap 0  0: p", "1 swap 0 0 : p",
@@ -246,6 +280,45 @@ class WrittenStructures(unittest.TestCase):
             lines = show_structure(structure)
             self.assertEqual(read_structure(lines), structure)
             self.assertEqual(show_structure(read_structure(lines)), lines)
+
+
+class LongNumbers(unittest.TestCase):
+    """Point 126, for sizes and elements of many digits."""
+
+    def test_written(self):
+        self.assertTrue(show_structure(Structure(10 ** 4300, {}, {})) == ["size " + LONG])
+        structure = Structure(10 ** 4300 + 1, {"f": {(10 ** 4300, 3): 10 ** 4300 - 1}, "c": {(): 10 ** 4300}},
+                              {"p": {(10 ** 4300,): False}})
+        self.assertTrue(show_structure(structure) == ["size 1" + "0" * 4299 + "1", "c = " + LONG,
+                                                      "f(" + LONG + ",3) = " + "9" * 4300, "p(" + LONG + ") = false"])
+
+    def test_read(self):
+        for number in LONG_NUMBERS:
+            structure = Structure(number, {"f": {(0, number - 1): number - 2}, "c": {(): number - 1}},
+                                  {"p": {(number - 1,): True, (3,): False}})
+            self.assertTrue(read_structure(show_structure(structure)) == structure)
+            self.assertTrue(read_structure(show_structure(structure)) != Structure(number, {}, {}))
+
+    def test_rows_are_in_the_order_of_their_numbers(self):
+        tables = {"f": {(9,): 0, (10 ** 4300,): 1, (10 ** 4300 - 1,): 2, (2 * 10 ** 4299,): 3}}
+        structure = Structure(10 ** 4400, tables, {})
+        lines = show_structure(structure)
+        self.assertEqual([line[-1] for line in lines[1:]], ["0", "3", "2", "1"])
+        self.assertTrue(read_structure(lines) == structure)
+        self.assertEqual(error_of(read_structure, lines[:2] + lines[:1:-1]), (4, 1, "invalid structure"))
+
+    def test_spoiled(self):
+        for word in SPOILED_NUMBERS:
+            self.assertEqual(error_of(read_structure, ["size " + word]), (1, 1, "invalid structure"))
+            for line in ("c = " + word, "f(" + word + ") = 0", "f(0," + word + ") = 0", "p(" + word + ") = true"):
+                self.assertEqual(error_of(read_structure, ["size 9" + LONG, line]), (2, 1, "invalid structure"))
+
+    def test_elements_beyond_the_size(self):
+        for line in ("c = N", "f(N) = 0", "f(0,N) = 0", "p(N) = true"):
+            for size, number in ((10 ** 4300, 2), (10 ** 4300 + 1, None)):
+                lines = show_structure(Structure(size, {}, {})) + [line.replace("N", LONG)]
+                expected = None if number is None else (number, 1, "invalid structure")
+                self.assertEqual(error_of(read_structure, lines), expected)
 
 
 class ReadStructures(unittest.TestCase):

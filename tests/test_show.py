@@ -20,6 +20,12 @@ class Terms(unittest.TestCase):
         self.assertEqual(show_term(0), "X0")
         self.assertEqual(show_term(12), "X12")
 
+    def test_variables_of_many_digits(self):
+        for digits in (4299, 4300, 4301, 9000):
+            self.assertTrue(show_term(10 ** digits) == "X1" + "0" * digits)
+            self.assertTrue(show_term(10 ** digits - 1) == "X" + "9" * digits)
+            self.assertTrue(show_term(("f", ("g", 10 ** digits), 1)) == "f(g(X1" + "0" * digits + "),X1)")
+
     def test_constants(self):
         self.assertEqual(show_term(("a",)), "a")
         self.assertEqual(show_term(TRUE), "true")
@@ -54,6 +60,13 @@ class Clauses(unittest.TestCase):
         self.assertEqual(show_clause(((True, ("p",), TRUE),)), "p")
         self.assertEqual(show_clause(((True, TRUE, TRUE), (False, TRUE, TRUE), (False, 0, 1))),
                          "true | ~true | X0 != X1")
+
+
+    def test_variables_of_many_digits(self):
+        name = "X1" + "0" * 4300
+        self.assertTrue(show_literal((True, 10 ** 4300, ("a",))) == name + " = a")
+        self.assertTrue(show_literal((False, ("p", 10 ** 4300), TRUE)) == "~p(" + name + ")")
+        self.assertTrue(show_clause(((True, ("p",), TRUE), (False, 0, 10 ** 4300))) == "p | X0 != " + name)
 
 
 class Formulas(unittest.TestCase):
